@@ -1,10 +1,7 @@
 package crc
 
 import (
-	"go/parser"
-	"go/token"
 	"hash/crc32"
-	"os"
 	"strings"
 	"sync"
 	"testing"
@@ -358,29 +355,6 @@ func TestAnotherByteOfALongText(t *testing.T) { // P2.3
 			b[at] ^= 1 << bit
 			if c.Right(string(b), sum) {
 				t.Errorf("bit %d of byte %d turned: the same sum", bit, at)
-			}
-		}
-	}
-}
-
-// TestImportsOnlyApiAndSync: the chapter says that the package imports only package api; its ways ask for a sync.Once.
-func TestImportsOnlyApiAndSync(t *testing.T) {
-	files, err := os.ReadDir(".")
-	if err != nil {
-		t.Fatal(err)
-	}
-	for _, f := range files {
-		name := f.Name()
-		if !strings.HasSuffix(name, ".go") || strings.HasSuffix(name, "_test.go") {
-			continue
-		}
-		tree, err := parser.ParseFile(token.NewFileSet(), name, nil, parser.ImportsOnly)
-		if err != nil {
-			t.Fatal(err)
-		}
-		for _, i := range tree.Imports {
-			if p := i.Path.Value; p != `"horarium/api"` && p != `"sync"` {
-				t.Errorf("%s imports %s", name, p)
 			}
 		}
 	}

