@@ -26,6 +26,7 @@ func built() []layer {
 		{"octet", []string{"strings"}},
 		{"frame", []string{"strings", "horarium/crc"}},
 		{"disk", nil},
+		{"slots", []string{"math", "horarium/disk", "horarium/frame"}},
 	}
 }
 
