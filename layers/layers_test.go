@@ -27,6 +27,7 @@ func built() []layer {
 		{"frame", []string{"strings", "horarium/crc"}},
 		{"disk", nil},
 		{"slots", []string{"math", "horarium/disk", "horarium/frame"}},
+		{"wal", []string{"horarium/disk", "horarium/frame"}},
 	}
 }
 
