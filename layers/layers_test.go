@@ -28,6 +28,7 @@ func built() []layer {
 		{"disk", nil},
 		{"slots", []string{"math", "horarium/disk", "horarium/frame"}},
 		{"wal", []string{"horarium/disk", "horarium/frame"}},
+		{"journal", []string{"horarium/disk", "horarium/slots", "horarium/wal"}},
 	}
 }
 
