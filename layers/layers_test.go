@@ -29,6 +29,7 @@ func built() []layer {
 		{"slots", []string{"math", "horarium/disk", "horarium/frame"}},
 		{"wal", []string{"horarium/disk", "horarium/frame"}},
 		{"journal", []string{"horarium/disk", "horarium/slots", "horarium/wal"}},
+		{"param", []string{"slices", "horarium/wide"}},
 	}
 }
 
