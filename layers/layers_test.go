@@ -30,6 +30,7 @@ func built() []layer {
 		{"wal", []string{"horarium/disk", "horarium/frame"}},
 		{"journal", []string{"horarium/disk", "horarium/slots", "horarium/wal"}},
 		{"param", []string{"slices", "horarium/wide"}},
+		{"demand", []string{"horarium/param"}},
 	}
 }
 
