@@ -6,10 +6,11 @@ import (
 	"testing"
 
 	"horarium/api"
+	"horarium/samples"
 )
 
 // last is the greatest time that there is.
-const last = int64(1) << 40
+const last = samples.Last
 
 // named are tasks of these C, D and T, three by three, with IDs from 0 on.
 func named(numbers ...int64) []api.Task {
@@ -20,86 +21,9 @@ func named(numbers ...int64) []api.Task {
 	return l
 }
 
-// same is n times t.
-func same(n int, t api.Task) []api.Task {
-	return slices.Repeat([]api.Task{t}, n)
-}
-
-// wrong are tasks that may not be, each for another reason.
-func wrong() []api.Task {
-	return []api.Task{
-		{},
-		{ID: -1, C: 1, D: 1, T: 1, Modes: 1},
-		{ID: 1024, C: 1, D: 1, T: 1, Modes: 1},
-		{ID: 1, C: 0, D: 1, T: 1, Modes: 1},
-		{ID: 1, C: -1, D: 1, T: 1, Modes: 1},
-		{ID: 1, C: 3, D: 2, T: 4, Modes: 1},
-		{ID: 1, C: 1, D: 5, T: 4, Modes: 1},
-		{ID: 1, C: 1, D: 1, T: 0, Modes: 1},
-		{ID: 1, C: 1, D: 0, T: 1, Modes: 1},
-		{ID: 1, C: -1, D: -1, T: -1, Modes: 1},
-		{ID: 1, C: 1, D: 1, T: 1<<31 + 1, Modes: 1},
-		{ID: 1, C: 1, D: 1, T: 1, Modes: 0},
-		{ID: 1, C: 1, D: 1, T: 1, Modes: 16},
-		{ID: math.MinInt, C: math.MinInt64, D: math.MinInt64, T: math.MinInt64, Modes: math.MinInt},
-		{ID: math.MaxInt, C: math.MaxInt64, D: math.MaxInt64, T: math.MaxInt64, Modes: math.MaxInt},
-	}
-}
-
-// noTimes are numbers that are no time.
-func noTimes() []int64 {
-	return []int64{math.MinInt64, math.MinInt64 + 1, -last, -1 << 31, -2, -1, last + 1, last + 2, 2 * last, math.MaxInt64 - 1, math.MaxInt64}
-}
-
-// someTimes are numbers that are times.
-func someTimes() []int64 {
-	return []int64{0, 1, 2, 3, 4, 5, 100, 4095, 4096, 4097, 1<<31 - 1, 1 << 31, 1<<31 + 1, last - 1, last}
-}
-
-// refused are rows that may not be: too many tasks, or a wrong one at the first, a middle or the last place.
-func refused() [][]api.Task {
-	good := api.Task{ID: 5, C: 1, D: 1, T: 2, Modes: 1}
-	rows := [][]api.Task{same(17, good), same(18, good), same(1<<10, good)}
-	for _, bad := range wrong() {
-		for _, n := range []int{1, 2, 3, 16} {
-			for at := range n {
-				l := same(n, good)
-				l[at] = bad
-				rows = append(rows, l)
-			}
-		}
-	}
-	return rows
-}
-
-// drawing draws numbers from 0 to below n, in a row that looks like chance and is the same in every run.
-func drawing(seed int) func(n int64) int64 {
-	x := uint64(88172645463325252) + uint64(seed)
-	return func(n int64) int64 {
-		x ^= x << 13
-		x ^= x >> 7
-		x ^= x << 17
-		return int64(x >> 8 % uint64(n))
-	}
-}
-
-// drawn is a row of up to most tasks that may be, of periods from least to greatest.
-func drawn(draw func(n int64) int64, most, least, greatest int64) []api.Task {
-	var l []api.Task
-	for range draw(most + 1) {
-		t := least + draw(greatest-least+1)
-		d := 1 + draw(t)
-		if draw(3) == 0 {
-			d = t
-		}
-		l = append(l, api.Task{ID: int(draw(1024)), C: 1 + draw(d), D: d, T: t, Modes: 1 + int(draw(15))})
-	}
-	return l
-}
-
 // light is a row of tasks that may be, of little work each, so that many such rows fit, or nearly do.
 func light(draw func(n int64) int64) []api.Task {
-	l := drawn(draw, 4, 3, 16)
+	l := samples.Drawn(draw, 4, 3, 16)
 	for i := range l {
 		l[i].C = 1 + draw(max(1, l[i].D/3))
 	}
@@ -248,8 +172,8 @@ func TestOneDoesNotHangOnIDAndModes(t *testing.T) { // P10.1
 }
 
 func TestOneOfATaskThatMayNotBe(t *testing.T) { // P10.1, P1
-	for _, bad := range wrong() {
-		for _, x := range slices.Concat(someTimes(), noTimes()) {
+	for _, bad := range samples.Wrong() {
+		for _, x := range slices.Concat(samples.Times(), samples.NoTimes()) {
 			if got := One(bad, x); got != 0 {
 				t.Errorf("One(%v, %d): %d, want 0", bad, x, got)
 			}
@@ -259,7 +183,7 @@ func TestOneOfATaskThatMayNotBe(t *testing.T) { // P10.1, P1
 
 func TestOneAtWhatIsNoTime(t *testing.T) { // P10.1, P1
 	for _, task := range named(1, 1, 1, 1, 2, 3, 1, 1, 1<<31, 1<<31, 1<<31, 1<<31) {
-		for _, x := range noTimes() {
+		for _, x := range samples.NoTimes() {
 			if got := One(task, x); got != 0 {
 				t.Errorf("One(%v, %d): %d, want 0", task, x, got)
 			}
@@ -276,13 +200,13 @@ func TestOfAtItsEdges(t *testing.T) { // P10.1, R1
 		{nil, 0, 0}, {nil, 5, 0}, {nil, last, 0}, {[]api.Task{}, 5, 0},
 		{named(2, 3, 5), 2, 0}, {named(2, 3, 5), 3, 2}, {named(2, 3, 5), 13, 6},
 		{named(2, 3, 5, 2, 4, 6), 3, 2}, {named(2, 3, 5, 2, 4, 6), 4, 4}, {named(2, 3, 5, 2, 4, 6), 8, 6}, {named(2, 3, 5, 2, 4, 6), 10, 8},
-		{same(2, second), 9, 18},
+		{samples.Same(2, second), 9, 18},
 		{[]api.Task{second, {ID: 7, C: 3, D: 4, T: 5, Modes: 8}}, 9, 15},
-		{same(15, second), 3, 45}, {same(16, second), 3, 48}, {same(17, second), 3, 0},
-		{append(same(15, second), named(2, 3, 5)...), 3, 47},
-		{same(16, second), last, 1 << 44}, {same(16, second), last - 1, 1<<44 - 16},
-		{same(16, api.Task{ID: 1, C: 1 << 31, D: 1 << 31, T: 1 << 31, Modes: 15}), last, 1 << 44},
-		{same(16, api.Task{ID: 1, C: 1 << 31, D: 1 << 31, T: 1 << 31, Modes: 15}), last - 1, 1<<44 - 1<<35},
+		{samples.Same(15, second), 3, 45}, {samples.Same(16, second), 3, 48}, {samples.Same(17, second), 3, 0},
+		{append(samples.Same(15, second), named(2, 3, 5)...), 3, 47},
+		{samples.Same(16, second), last, 1 << 44}, {samples.Same(16, second), last - 1, 1<<44 - 16},
+		{samples.Same(16, api.Task{ID: 1, C: 1 << 31, D: 1 << 31, T: 1 << 31, Modes: 15}), last, 1 << 44},
+		{samples.Same(16, api.Task{ID: 1, C: 1 << 31, D: 1 << 31, T: 1 << 31, Modes: 15}), last - 1, 1<<44 - 1<<35},
 	}
 	for _, c := range cases {
 		if got := Of(c.l, c.x); got != c.want {
@@ -292,8 +216,8 @@ func TestOfAtItsEdges(t *testing.T) { // P10.1, R1
 }
 
 func TestRowsThatMayNotBeHaveNothing(t *testing.T) { // P10.1, P10.2, P1, R2
-	for _, l := range refused() {
-		for _, x := range slices.Concat(someTimes(), noTimes()) {
+	for _, l := range samples.Refused() {
+		for _, x := range slices.Concat(samples.Times(), samples.NoTimes()) {
 			isNone(t, l, x)
 		}
 	}
@@ -302,15 +226,15 @@ func TestRowsThatMayNotBeHaveNothing(t *testing.T) { // P10.1, P10.2, P1, R2
 func TestNothingIsToldOfWhatIsNoTime(t *testing.T) { // P10.1, P10.2, P1
 	once := api.Task{ID: 0, C: 1, D: 1, T: 1, Modes: 1}
 	great := api.Task{ID: 1, C: 1 << 31, D: 1 << 31, T: 1 << 31, Modes: 1}
-	for _, l := range [][]api.Task{nil, {}, {once}, {great}, {once, great}, same(16, once), same(16, great)} {
-		for _, x := range noTimes() {
+	for _, l := range [][]api.Task{nil, {}, {once}, {great}, {once, great}, samples.Same(16, once), samples.Same(16, great)} {
+		for _, x := range samples.NoTimes() {
 			isNone(t, l, x)
 		}
 	}
 }
 
 func TestThereIsNothingOfNoTasks(t *testing.T) { // P10.1, P10.2, R1
-	for _, x := range someTimes() {
+	for _, x := range samples.Times() {
 		isNone(t, nil, x)
 		isNone(t, []api.Task{}, x)
 	}
@@ -356,9 +280,9 @@ func TestNextAndBeforeAtTheirEdges(t *testing.T) { // P10.2
 }
 
 func TestBeforeAtTheFirstDeadlineOfAll(t *testing.T) { // P10.2
-	draw := drawing(1)
+	draw := samples.Drawing(1)
 	for range 500 {
-		l := drawn(draw, 16, 1, 1<<31)
+		l := samples.Drawn(draw, 16, 1, 1<<31)
 		if len(l) == 0 {
 			continue
 		}
@@ -400,7 +324,7 @@ func TestPointsAtTheirEdges(t *testing.T) { // P10.2
 	arePoints(t, named(1, 2, 4, 1, 2, 4), 10, 2, 6, 10)
 	arePoints(t, named(1, 2, 4, 2, 2, 8), 10, 2, 6, 10)
 	arePoints(t, named(1, 2, 2, 1, 3, 3), 12, 2, 3, 4, 6, 8, 9, 10, 12)
-	arePoints(t, same(16, one[0]), 13, 3, 8, 13)
+	arePoints(t, samples.Same(16, one[0]), 13, 3, 8, 13)
 
 	arePoints(t, named(1, 1, most), 0)
 	arePoints(t, named(1, 1, most), 1, 1)
@@ -413,7 +337,7 @@ func TestPointsAtTheirEdges(t *testing.T) { // P10.2
 func TestPointsAreAtMost4096(t *testing.T) { // P10.2
 	rows := [][]api.Task{
 		named(1, 1, 1), named(1, 2, 3), named(1, 2, 2, 1, 2, 2), named(1, 2, 2, 1, 3, 3), named(1, 1, 2, 1, 2, 2),
-		same(16, api.Task{ID: 1, C: 1, D: 1, T: 1, Modes: 1}), named(1, 1, 7, 1, 4, 9, 1, 2, 11, 1, 1, 13, 1, 9, 9),
+		samples.Same(16, api.Task{ID: 1, C: 1, D: 1, T: 1, Modes: 1}), named(1, 1, 7, 1, 4, 9, 1, 2, 11, 1, 1, 13, 1, 9, 9),
 	}
 	for _, l := range rows {
 		all := gathered(l, 20000)
@@ -428,7 +352,7 @@ func TestPointsAreAtMost4096(t *testing.T) { // P10.2
 		for _, most := range []int64{1 << 31, last - 1, last} {
 			arePoints(t, l, most, all[:4096]...)
 		}
-		for _, most := range noTimes() {
+		for _, most := range samples.NoTimes() {
 			arePoints(t, l, most)
 		}
 	}
@@ -458,17 +382,17 @@ func TestPointsUpToTheLastTime(t *testing.T) { // P10.2
 func TestFirstAtItsEdges(t *testing.T) { // P10.2
 	const most = 1 << 31
 	fits := [][]api.Task{
-		named(1, 1, 1), named(2, 3, 5, 2, 4, 6), named(1, 2, 2, 1, 3, 3, 1, 6, 6), named(1, 2, 2, 1, 2, 2), same(16, api.Task{ID: 1, C: 1, D: 16, T: 16, Modes: 1}),
+		named(1, 1, 1), named(2, 3, 5, 2, 4, 6), named(1, 2, 2, 1, 3, 3, 1, 6, 6), named(1, 2, 2, 1, 2, 2), samples.Same(16, api.Task{ID: 1, C: 1, D: 16, T: 16, Modes: 1}),
 		named(most, most, most), named(most-1, most, most, 1, most, most), named(1, 1, 2, 1, 2, 2),
 	}
 	for _, l := range fits {
-		for _, x := range someTimes() {
+		for _, x := range samples.Times() {
 			isFirst(t, l, x, 0)
 		}
 	}
 
 	// The first deadline, and at most and one above it.
-	for _, l := range [][]api.Task{named(1, 1, 9, 1, 1, 9), same(16, api.Task{ID: 1, C: 1, D: 1, T: most, Modes: 1})} {
+	for _, l := range [][]api.Task{named(1, 1, 9, 1, 1, 9), samples.Same(16, api.Task{ID: 1, C: 1, D: 1, T: most, Modes: 1})} {
 		isFirst(t, l, 0, 0)
 		isFirst(t, l, 1, 1)
 		isFirst(t, l, 2, 1)
@@ -525,19 +449,19 @@ func TestOnlyTheFirst4096DeadlinesCount(t *testing.T) { // P10.2
 		}
 	}
 	// A deadline of many tasks counts once.
-	l := append(same(8, api.Task{ID: 1, C: 1, D: 8, T: 8, Modes: 1}), api.Task{ID: 9, C: 1, D: 8 * 4096, T: most, Modes: 1})
+	l := append(samples.Same(8, api.Task{ID: 1, C: 1, D: 8, T: 8, Modes: 1}), api.Task{ID: 9, C: 1, D: 8 * 4096, T: most, Modes: 1})
 	isFirst(t, l, last, 8*4096)
 	l[8].D = 8 * 4097
 	isFirst(t, l, last, 0)
 }
 
 func TestAllCallsAreAsAPlainCountTells(t *testing.T) { // P10.1, P10.2
-	draw := drawing(2)
+	draw := samples.Drawing(2)
 	found, fit := 0, 0
 	for i := range 3000 {
 		l := light(draw)
 		if i%3 == 0 {
-			l = drawn(draw, 16, 1, 24)
+			l = samples.Drawn(draw, 16, 1, 24)
 		}
 		isCounted(t, l, 60)
 		if _, ok := First(l, 200); ok {
@@ -592,9 +516,9 @@ func isCounted(t *testing.T, l []api.Task, x int64) {
 }
 
 func TestGreatTasksAreAsAPlainCountTells(t *testing.T) { // P10.1, P10.2
-	draw := drawing(3)
+	draw := samples.Drawing(3)
 	for range 60 {
-		l := drawn(draw, 16, 1<<28, 1<<31)
+		l := samples.Drawn(draw, 16, 1<<28, 1<<31)
 		if len(l) == 0 {
 			continue
 		}
@@ -646,9 +570,9 @@ func firstOf(l []api.Task, deadlines []int64) int64 {
 }
 
 func TestWorkNeverFallsAndRisesAtDeadlinesAlone(t *testing.T) { // P10.3
-	draw := drawing(4)
+	draw := samples.Drawing(4)
 	for i := range 600 {
-		l := drawn(draw, 16, 1, []int64{3, 20, 200}[i%3])
+		l := samples.Drawn(draw, 16, 1, []int64{3, 20, 200}[i%3])
 		const end = 400
 		points := Points(l, end)
 		ahead := int64(0)
@@ -673,9 +597,9 @@ func TestWorkNeverFallsAndRisesAtDeadlinesAlone(t *testing.T) { // P10.3
 }
 
 func TestWorkBetweenTimesFarApart(t *testing.T) { // P10.3
-	draw := drawing(5)
+	draw := samples.Drawing(5)
 	for range 2000 {
-		l := drawn(draw, 16, 1, 1<<31)
+		l := samples.Drawn(draw, 16, 1, 1<<31)
 		x := draw(last)
 		work := Of(l, x)
 		next, ok := Next(l, x)
@@ -699,9 +623,9 @@ func TestWorkBetweenTimesFarApart(t *testing.T) { // P10.3
 }
 
 func TestTheOrderOfTasksCountsForNothing(t *testing.T) { // P10.1, P10.2
-	draw := drawing(6)
+	draw := samples.Drawing(6)
 	for range 200 {
-		l := drawn(draw, 16, 1, 60)
+		l := samples.Drawn(draw, 16, 1, 60)
 		turned := slices.Clone(l)
 		slices.Reverse(turned)
 		for _, x := range []int64{0, 1, 7, 30, 500, last} {
@@ -724,10 +648,10 @@ func TestTheOrderOfTasksCountsForNothing(t *testing.T) { // P10.1, P10.2
 }
 
 func TestWhatIsHandedInStaysAsItIs(t *testing.T) { // R3
-	draw := drawing(7)
-	rows := refused()
+	draw := samples.Drawing(7)
+	rows := samples.Refused()
 	for range 300 {
-		rows = append(rows, drawn(draw, 16, 1, 60))
+		rows = append(rows, samples.Drawn(draw, 16, 1, 60))
 	}
 	for _, l := range rows {
 		// What lies behind the row stays as well.
@@ -748,9 +672,9 @@ func TestWhatIsHandedInStaysAsItIs(t *testing.T) { // R3
 }
 
 func TestWhatPointsTellsIsTheCallersOwn(t *testing.T) { // P10.2, R3, R4
-	draw := drawing(8)
+	draw := samples.Drawing(8)
 	for range 300 {
-		l := drawn(draw, 16, 1, 60)
+		l := samples.Drawn(draw, 16, 1, 60)
 		told := Points(l, 500)
 		kept := slices.Clone(told)
 		again := Points(l, 500)
@@ -801,5 +725,5 @@ func TestAllCallsEndAtAllArguments(t *testing.T) { // P1, R4, R5
 			}
 		}
 	}
-	isNone(t, same(1<<16, api.Task{ID: 1, C: 1, D: 1, T: 1, Modes: 1}), 100)
+	isNone(t, samples.Same(1<<16, api.Task{ID: 1, C: 1, D: 1, T: 1, Modes: 1}), 100)
 }

@@ -31,6 +31,7 @@ func built() []layer {
 		{"journal", []string{"horarium/disk", "horarium/slots", "horarium/wal"}},
 		{"param", []string{"slices", "horarium/wide"}},
 		{"demand", []string{"horarium/param"}},
+		{"busy", []string{"horarium/demand", "horarium/param"}},
 	}
 }
 

@@ -7,6 +7,7 @@ import (
 	"testing"
 
 	"horarium/api"
+	"horarium/samples"
 )
 
 // of is a task that is in all modes, with its deadline at its period.
@@ -30,47 +31,6 @@ func lasting(periods ...int64) []api.Task {
 		l = append(l, of(i, 1, t))
 	}
 	return l
-}
-
-// same is n times t.
-func same(n int, t api.Task) []api.Task {
-	return slices.Repeat([]api.Task{t}, n)
-}
-
-// drawn is the number behind x in a row that looks like chance, and is none.
-func drawn(x uint64) uint64 {
-	x ^= x << 13
-	x ^= x >> 7
-	return x ^ x<<17
-}
-
-// drawing draws numbers from 0 to below n, the same in every run.
-func drawing(seed int) func(n int64) int64 {
-	x := uint64(88172645463325252) + uint64(seed)
-	return func(n int64) int64 {
-		x = drawn(x)
-		return int64(x >> 8 % uint64(n))
-	}
-}
-
-// wrong are tasks that may not be, each for another reason.
-func wrong() []api.Task {
-	return []api.Task{
-		{},
-		{ID: 0, C: 0, D: 1, T: 1, Modes: 1},
-		{ID: -1, C: 1, D: 1, T: 1, Modes: 1},
-		{ID: 1024, C: 1, D: 1, T: 1, Modes: 1},
-		{ID: 1, C: 3, D: 2, T: 4, Modes: 1},
-		{ID: 1, C: 1, D: 5, T: 4, Modes: 1},
-		{ID: 1, C: 5, D: 5, T: 4, Modes: 1},
-		{ID: 1, C: 1, D: 1, T: 1<<31 + 1, Modes: 1},
-		{ID: 1, C: 1, D: 1, T: 1, Modes: 0},
-		{ID: 1, C: 1, D: 1, T: 1, Modes: 16},
-		{ID: 1, C: -1, D: -1, T: -1, Modes: 1},
-		{ID: 1, C: 1, D: 1, T: 0, Modes: 1},
-		{ID: math.MinInt, C: math.MinInt64, D: math.MinInt64, T: math.MinInt64, Modes: math.MinInt},
-		{ID: math.MaxInt, C: math.MaxInt64, D: math.MaxInt64, T: math.MaxInt64, Modes: math.MaxInt},
-	}
 }
 
 // edges are tasks of all numbers around the edges, most of which may not be.
@@ -115,7 +75,7 @@ func primes(n int) []int64 {
 
 // rows are rows of tasks that may be: those of the edges, and many that look drawn by chance, of periods that mostly share a small multiple.
 func rows() [][]api.Task {
-	l := [][]api.Task{nil, {}, named(1, 4, 1, 6), lasting(1), lasting(1 << 20), lasting(1<<20 + 1), lasting(1 << 31), same(16, of(3, 1<<20, 1<<20)), same(16, of(3, 1<<31, 1<<31))}
+	l := [][]api.Task{nil, {}, named(1, 4, 1, 6), lasting(1), lasting(1 << 20), lasting(1<<20 + 1), lasting(1 << 31), samples.Same(16, of(3, 1<<20, 1<<20)), samples.Same(16, of(3, 1<<31, 1<<31))}
 	periods := [][]int64{
 		{1, 2, 3, 4, 5, 6, 8, 10, 12, 15, 20, 24, 30, 40, 60, 120},
 		{1, 2, 4, 16, 256, 1 << 10, 1 << 19, 1 << 20},
@@ -123,7 +83,7 @@ func rows() [][]api.Task {
 		{720720, 5040, 16, 9, 65520, 1001, 360360, 77},
 		{1 << 31, 1<<31 - 1, 1 << 20, 1<<20 - 1, 1, 2, 1 << 30},
 	}
-	draw := drawing(1)
+	draw := samples.Drawing(1)
 	for i := range 4000 {
 		some := periods[i%len(periods)]
 		var row []api.Task
@@ -258,7 +218,7 @@ func TestCheckIsAsTheWordsTellIt(t *testing.T) { // P9.1
 
 func TestRowOfAsManyAsMayBe(t *testing.T) { // P9.1, R1, R5
 	for _, n := range []int{0, 1, 2, 15, 16, 17, 18, 32, 255, 256, 1 << 16, 1 << 20} {
-		if got, want := Row(same(n, of(5, 1, 1<<31))), n <= 16; got != want {
+		if got, want := Row(samples.Same(n, of(5, 1, 1<<31))), n <= 16; got != want {
 			t.Errorf("Row of %d tasks: %v, want %v", n, got, want)
 		}
 	}
@@ -268,10 +228,10 @@ func TestRowOfAsManyAsMayBe(t *testing.T) { // P9.1, R1, R5
 }
 
 func TestRowOfOneThatMayNotBe(t *testing.T) { // P9.1
-	for _, bad := range wrong() {
+	for _, bad := range samples.Wrong() {
 		for _, n := range []int{1, 2, 3, 16, 17} {
 			for at := range n {
-				l := same(n, of(5, 1, 2))
+				l := samples.Same(n, of(5, 1, 2))
 				l[at] = bad
 				if Row(l) {
 					t.Errorf("Row of %d tasks with %+v at %d: yes", n, bad, at)
@@ -311,7 +271,7 @@ func TestGcdAtItsEdges(t *testing.T) { // P9.1
 
 func TestGcdIsTheGreatestDivisor(t *testing.T) { // P9.1
 	numbers := []int64{0, 1, 2, 3, 4, 6, 9, 12, 30, 97, 210, 1 << 20, 1<<31 - 1, 1 << 31, 1<<31 + 1, 1 << 62, math.MaxInt64 - 1, math.MaxInt64}
-	draw := drawing(2)
+	draw := samples.Drawing(2)
 	for range 60 {
 		numbers = append(numbers, draw(1000), draw(1<<31), draw(math.MaxInt64))
 	}
@@ -405,30 +365,30 @@ func TestPeriodIsTheLeastCommonMultiple(t *testing.T) { // P9.1
 }
 
 func TestTasksThatMayNotBeAreRefused(t *testing.T) { // P9.1, P9.2, R2
-	for _, bad := range wrong() {
+	for _, bad := range samples.Wrong() {
 		for _, n := range []int{1, 2, 3, 16} {
 			for at := range n {
-				l := same(n, of(5, 1, 2))
+				l := samples.Same(n, of(5, 1, 2))
 				l[at] = bad
 				isRefused(t, l, api.ErrArg)
 			}
 		}
 	}
 	for _, n := range []int{17, 18, 100, 1 << 16} {
-		isRefused(t, same(n, of(5, 1, 2)), api.ErrArg)
+		isRefused(t, samples.Same(n, of(5, 1, 2)), api.ErrArg)
 	}
 }
 
 func TestErrArgComesAheadOfErrOver(t *testing.T) { // P9.1, P9.2, P1, R2
-	for _, bad := range wrong() {
+	for _, bad := range samples.Wrong() {
 		for at := range 3 {
 			isRefused(t, slices.Insert(lasting(1<<20, 3), at, bad), api.ErrArg)
 			isRefused(t, slices.Insert(lasting(1<<31, 1<<31-1), at, bad), api.ErrArg)
 		}
 	}
-	isRefused(t, same(17, of(5, 1, 1<<31)), api.ErrArg)
-	isRefused(t, append(same(16, of(5, 1, 1<<31)), of(5, 1, 1)), api.ErrArg)
-	isRefused(t, same(16, of(5, 1, 1<<31)), api.ErrOver)
+	isRefused(t, samples.Same(17, of(5, 1, 1<<31)), api.ErrArg)
+	isRefused(t, append(samples.Same(16, of(5, 1, 1<<31)), of(5, 1, 1)), api.ErrArg)
+	isRefused(t, samples.Same(16, of(5, 1, 1<<31)), api.ErrOver)
 }
 
 func TestLoadAtItsEdges(t *testing.T) { // P9.2, the chapter's example
@@ -459,12 +419,12 @@ func TestLoadAtItsEdges(t *testing.T) { // P9.2, the chapter's example
 		{named(2, 4, 2, 4), 4, 4, false},
 		{named(1, 1, 1, 1), 2, 1, true},
 
-		{same(16, of(9, 1, 16)), 16, 16, false},
-		{append(same(15, of(9, 1, 16)), of(9, 2, 16)), 17, 16, true},
-		{append(same(15, of(9, 1, 16)), of(9, 15, 256)), 255, 256, false},
-		{same(16, of(9, 1<<20, 1<<20)), 1 << 24, 1 << 20, true},
-		{same(16, of(9, 1, 1)), 16, 1, true},
-		{append(same(15, of(9, 1, 1)), of(9, 1<<20, 1<<20)), 1 << 24, 1 << 20, true},
+		{samples.Same(16, of(9, 1, 16)), 16, 16, false},
+		{append(samples.Same(15, of(9, 1, 16)), of(9, 2, 16)), 17, 16, true},
+		{append(samples.Same(15, of(9, 1, 16)), of(9, 15, 256)), 255, 256, false},
+		{samples.Same(16, of(9, 1<<20, 1<<20)), 1 << 24, 1 << 20, true},
+		{samples.Same(16, of(9, 1, 1)), 16, 1, true},
+		{append(samples.Same(15, of(9, 1, 1)), of(9, 1<<20, 1<<20)), 1 << 24, 1 << 20, true},
 	}
 	for _, c := range cases {
 		if work, period, err := Load(c.l); work != c.work || period != c.period || err != api.OK {
@@ -588,7 +548,7 @@ func TestHeavierIsTheOrderOfShares(t *testing.T) { // P9.2
 }
 
 func TestHeavierOfTasksThatMayNotBe(t *testing.T) { // P9.2
-	bad := append(wrong(), api.Task{ID: 0, C: 2, D: 2, T: 1, Modes: 1}, api.Task{ID: -1, C: 1, D: 1, T: 1, Modes: 15}, api.Task{ID: 0, C: 0, D: 1, T: 1 << 31, Modes: 15}, api.Task{ID: 2000, C: 1, D: 1, T: 1 << 31, Modes: 15})
+	bad := append(samples.Wrong(), api.Task{ID: 0, C: 2, D: 2, T: 1, Modes: 1}, api.Task{ID: -1, C: 1, D: 1, T: 1, Modes: 15}, api.Task{ID: 0, C: 0, D: 1, T: 1 << 31, Modes: 15}, api.Task{ID: 2000, C: 1, D: 1, T: 1 << 31, Modes: 15})
 	for _, x := range bad {
 		for _, good := range weighed() {
 			if Heavier(x, good) || Heavier(good, x) {
@@ -623,7 +583,7 @@ func TestSortOfNoneAndOne(t *testing.T) { // P9.2, R1
 	if l := Sort([]api.Task{}); len(l) != 0 {
 		t.Errorf("Sort of none: %v", l)
 	}
-	for _, x := range append(wrong(), of(1, 1, 1), of(1023, 1, 1<<31)) {
+	for _, x := range append(samples.Wrong(), of(1, 1, 1), of(1023, 1, 1<<31)) {
 		if l := Sort([]api.Task{x}); !slices.Equal(l, []api.Task{x}) {
 			t.Errorf("Sort of %v: %v", x, l)
 		}
@@ -684,7 +644,7 @@ func TestSortLeavesThoseOfWhichNoneIsHeavierAsTheyStand(t *testing.T) { // P9.2
 }
 
 func TestSortOfManyMoreThanARow(t *testing.T) { // P9.2, R5
-	draw := drawing(3)
+	draw := samples.Drawing(3)
 	var l []api.Task
 	for range 1200 {
 		n := 1 + draw(40)
@@ -707,7 +667,7 @@ func TestSortOfManyMoreThanARow(t *testing.T) { // P9.2, R5
 }
 
 func TestSortOfTasksThatMayNotBe(t *testing.T) { // P9.2
-	bad := wrong()
+	bad := samples.Wrong()
 	if got := Sort(bad); !slices.Equal(got, bad) {
 		t.Errorf("Sort(%v): %v, want them as they stand", bad, got)
 	}
@@ -735,8 +695,8 @@ func TestSortOfTasksThatMayNotBe(t *testing.T) { // P9.2
 }
 
 func TestSortAmongTasksThatMayNotBe(t *testing.T) { // P9.2
-	draw := drawing(4)
-	bad, good := wrong(), weighed()
+	draw := samples.Drawing(4)
+	bad, good := samples.Wrong(), weighed()
 	for range 2000 {
 		var l, may []api.Task
 		for range draw(40) {
@@ -764,7 +724,7 @@ func TestSortAmongTasksThatMayNotBe(t *testing.T) { // P9.2
 }
 
 func TestWhatIsHandedInStaysAsItIs(t *testing.T) { // R3
-	all := append(rows(), weighed(), wrong())
+	all := append(rows(), weighed(), samples.Wrong())
 	for _, l := range all {
 		before := slices.Clone(l)
 		Row(l)
@@ -779,7 +739,7 @@ func TestWhatIsHandedInStaysAsItIs(t *testing.T) { // R3
 }
 
 func TestWhatSortTellsIsTheCallersOwn(t *testing.T) { // P9.2, R3
-	all := append(rows(), weighed(), wrong())
+	all := append(rows(), weighed(), samples.Wrong())
 	for _, l := range all {
 		l = slices.Grow(slices.Clone(l), 4)
 		whole := l[:cap(l)]
