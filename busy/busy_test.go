@@ -30,42 +30,6 @@ func due(numbers ...int64) []api.Task {
 	return l
 }
 
-// halves are tasks of 1 of 2, 1 of 4, and so on up to 1 of 2^15, and one of c of 2^20, of which 32 are all that is left.
-func halves(c int64) []api.Task {
-	var numbers []int64
-	for n := range 15 {
-		numbers = append(numbers, 1, 2<<n)
-	}
-	return named(append(numbers, c, 1<<20)...)
-}
-
-// dividing are up to 15 tasks of some work each, whose periods divide whole.
-func dividing(draw func(n int64) int64, whole int64) []api.Task {
-	var l []api.Task
-	n := 1 + draw(15)
-	for range n {
-		t := 1 + draw(whole)
-		for whole%t != 0 {
-			t--
-		}
-		c := 1 + draw(max(1, t/n))
-		l = append(l, api.Task{ID: int(draw(1024)), C: c, D: c + draw(t-c+1), T: t, Modes: 1 + int(draw(15))})
-	}
-	return l
-}
-
-// filled is l and a task of the period whole, that leaves just left of it (less than none, if left is below 0); false if there is no such task.
-func filled(l []api.Task, whole, left int64) ([]api.Task, bool) {
-	c := whole - left
-	for _, task := range l {
-		c -= task.C * (whole / task.T)
-	}
-	if c < 1 || c > whole {
-		return nil, false
-	}
-	return append(slices.Clone(l), api.Task{ID: 77, C: c, D: whole, T: whole, Modes: 1}), true
-}
-
 // counted is the work of l that was released below x, release by release.
 func counted(l []api.Task, x int64) int64 {
 	work := int64(0)
@@ -75,43 +39,6 @@ func counted(l []api.Task, x int64) int64 {
 		}
 	}
 	return work
-}
-
-// lasting is the least time from 1 on at which just as much is counted, and the work at each time up to then: time by time. It ends of tasks that do not load too much.
-func lasting(l []api.Task) (int64, []int64) {
-	work := []int64{0}
-	next := make([]int64, len(l))
-	for x := int64(1); ; x++ {
-		now := work[x-1]
-		for i, t := range l {
-			if next[i] < x {
-				now += t.C
-				next[i] += t.T
-			}
-		}
-		work = append(work, now)
-		if now == x {
-			return x, work
-		}
-	}
-}
-
-// common is the least common multiple of all T, found by trying; 0 if it is above 2^20.
-func common(l []api.Task) int64 {
-	period := int64(1)
-	for _, t := range l {
-		one := period
-		for period%t.T != 0 {
-			period += one
-			if period > 1<<20 {
-				return 0
-			}
-		}
-	}
-	if period > 1<<20 {
-		return 0
-	}
-	return period
 }
 
 // hasNoLength looks at what Length and Steps tell where there is an error.
@@ -348,11 +275,11 @@ func TestLengthAtItsEdges(t *testing.T) { // P11.2
 }
 
 func TestLengthOfLongOnes(t *testing.T) { // P11.2
-	isLength(t, halves(31), 1015808)
-	isLength(t, halves(32), 1<<20)
-	hasNoLength(t, halves(33), api.ErrLoad)
+	isLength(t, samples.Halves(31, 1<<20), 1015808)
+	isLength(t, samples.Halves(32, 1<<20), 1<<20)
+	hasNoLength(t, samples.Halves(33, 1<<20), api.ErrLoad)
 	for _, l := range [][]api.Task{
-		halves(1), halves(31), halves(32), named(511, 1023, 513, 1025), named(1, 2, 1, 3, 1, 7, 1, 43, 1, 1806),
+		samples.Halves(1, 1<<20), samples.Halves(31, 1<<20), samples.Halves(32, 1<<20), named(511, 1023, 513, 1025), named(1, 2, 1, 3, 1, 7, 1, 43, 1, 1806),
 		named(1, 2, 1, 3, 1, 7, 41, 1806), named(1023, 1024, 1023, 1<<20), named(1, 2, 1<<19, 1<<20), named(1<<20-1, 1<<20, 1, 1<<20),
 	} {
 		isCounted(t, l)
@@ -386,7 +313,7 @@ func TestTheErrorThatIsNamedFirst(t *testing.T) { // P11.2, R2
 // isCounted holds Length and Steps of tasks that may be, and Work and Idle up to the length, against a plain count; it tells the error that there is.
 func isCounted(t *testing.T, l []api.Task) api.Errno {
 	t.Helper()
-	period, load := common(l), int64(0)
+	period, load := samples.Common(l), int64(0)
 	if period == 0 {
 		hasNoLength(t, l, api.ErrOver)
 		return api.ErrOver
@@ -402,7 +329,7 @@ func isCounted(t *testing.T, l []api.Task) api.Errno {
 		hasNoLength(t, l, api.OK)
 		return api.OK
 	}
-	length, work := lasting(l)
+	length, work := samples.Lasting(l)
 	steps := []int64{work[1]}
 	for x := work[1]; work[x] != x; x = work[x] {
 		steps = append(steps, work[x])
@@ -438,7 +365,7 @@ func TestAllCallsAreAsAPlainCountTells(t *testing.T) { // P11.1, P11.2, P11.3
 	found := map[api.Errno]int{}
 	for i := range 3000 {
 		whole := []int64{6, 12, 60, 360, 2520, 1 << 12}[i%6]
-		l := dividing(draw, whole)
+		l := samples.Dividing(draw, whole)
 		found[isCounted(t, l)]++
 		found[isCounted(t, samples.Drawn(draw, 4, 1, []int64{8, 200, 2000}[i%3]))]++
 	}
@@ -457,17 +384,17 @@ func TestLoadsAround1(t *testing.T) { // P11.2, P11.3
 		if whole > 2520 && i > 50 {
 			continue
 		}
-		l := dividing(draw, whole)
-		if full, ok := filled(l, whole, 0); ok {
+		l := samples.Dividing(draw, whole)
+		if full, ok := samples.Filled(l, whole, 0); ok {
 			found++
 			// Time is left over at no time ahead of the period's end.
 			isLength(t, full, whole)
 			isCounted(t, full)
 		}
-		if nearly, ok := filled(l, whole, 1); ok && isCounted(t, nearly) != api.OK {
+		if nearly, ok := samples.Filled(l, whole, 1); ok && isCounted(t, nearly) != api.OK {
 			t.Errorf("%v is too much", nearly)
 		}
-		if over, ok := filled(l, whole, -1); ok {
+		if over, ok := samples.Filled(l, whole, -1); ok {
 			hasNoLength(t, over, api.ErrLoad)
 		}
 	}
@@ -517,7 +444,7 @@ func TestAheadOfTheLengthThereIsMoreWorkThanTime(t *testing.T) { // P11.3
 	draw := samples.Drawing(5)
 	found, long := 0, 0
 	for i := range 2000 {
-		l := dividing(draw, []int64{12, 60, 360, 2520}[i%4])
+		l := samples.Dividing(draw, []int64{12, 60, 360, 2520}[i%4])
 		length, err := Length(l)
 		if err != api.OK {
 			continue
@@ -534,7 +461,7 @@ func TestAheadOfTheLengthThereIsMoreWorkThanTime(t *testing.T) { // P11.3
 		if Work(l, length) != length || !Idle(l, length) {
 			t.Errorf("%v: work of %d at the length, %d", l, Work(l, length), length)
 		}
-		if period := common(l); length > period {
+		if period := samples.Common(l); length > period {
 			t.Errorf("%v: a length of %d, above the period, %d", l, length, period)
 		}
 	}
@@ -546,7 +473,7 @@ func TestAheadOfTheLengthThereIsMoreWorkThanTime(t *testing.T) { // P11.3
 func TestStepsRiseAndEachIsTheWorkOfTheOneAhead(t *testing.T) { // P11.2
 	draw := samples.Drawing(6)
 	for i := range 1000 {
-		l := dividing(draw, []int64{12, 60, 2520, 720720}[i%4])
+		l := samples.Dividing(draw, []int64{12, 60, 2520, 720720}[i%4])
 		length, err := Length(l)
 		if err != api.OK {
 			continue
@@ -570,7 +497,7 @@ func TestStepsRiseAndEachIsTheWorkOfTheOneAhead(t *testing.T) { // P11.2
 func TestDAndIDAndModesAndTheOrderCountForNothing(t *testing.T) { // P11.1, P11.2
 	draw := samples.Drawing(7)
 	for i := range 500 {
-		l := dividing(draw, []int64{12, 60, 2520, 720720}[i%4])
+		l := samples.Dividing(draw, []int64{12, 60, 2520, 720720}[i%4])
 		other := slices.Clone(l)
 		slices.Reverse(other)
 		for i, task := range other {
@@ -595,7 +522,7 @@ func TestWhatIsHandedInStaysAsItIs(t *testing.T) { // R3
 	draw := samples.Drawing(8)
 	rows := samples.Refused()
 	for range 300 {
-		rows = append(rows, samples.Drawn(draw, 16, 1, 60), dividing(draw, 360))
+		rows = append(rows, samples.Drawn(draw, 16, 1, 60), samples.Dividing(draw, 360))
 	}
 	for _, l := range rows {
 		// What lies behind the row stays as well.
@@ -618,25 +545,8 @@ func TestWhatIsHandedInStaysAsItIs(t *testing.T) { // R3
 func TestWhatStepsTellsIsTheCallersOwn(t *testing.T) { // P11.2, R3, R4
 	draw := samples.Drawing(9)
 	for range 500 {
-		l := dividing(draw, 2520)
-		told := Steps(l)
-		kept := slices.Clone(told)
-		again := Steps(l)
-		if !slices.Equal(again, kept) {
-			t.Errorf("%v, then %v", kept, again)
-		}
-		for i := range l {
-			l[i] = api.Task{ID: 1, C: 7, D: 77, T: 777, Modes: 1}
-		}
-		if !slices.Equal(told, kept) {
-			t.Errorf("%v became %v with the row that was handed in", kept, told)
-		}
-		mine := told[:cap(told)]
-		for i := range mine {
-			mine[i] = -1
-		}
-		if !slices.Equal(again, kept) {
-			t.Errorf("%v became %v with what was told ahead of it", kept, again)
+		if l := samples.Dividing(draw, 2520); !samples.IsOwn(Steps, l) {
+			t.Errorf("Steps(%v): not the same twice, or not the caller's own", l)
 		}
 	}
 }

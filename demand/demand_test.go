@@ -12,14 +12,8 @@ import (
 // last is the greatest time that there is.
 const last = samples.Last
 
-// named are tasks of these C, D and T, three by three, with IDs from 0 on.
-func named(numbers ...int64) []api.Task {
-	var l []api.Task
-	for i := 0; i < len(numbers); i += 3 {
-		l = append(l, api.Task{ID: i / 3, C: numbers[i], D: numbers[i+1], T: numbers[i+2], Modes: 1})
-	}
-	return l
-}
+// named are tasks of these C, D and T.
+var named = samples.Named
 
 // light is a row of tasks that may be, of little work each, so that many such rows fit, or nearly do.
 func light(draw func(n int64) int64) []api.Task {
@@ -673,23 +667,10 @@ func TestWhatIsHandedInStaysAsItIs(t *testing.T) { // R3
 
 func TestWhatPointsTellsIsTheCallersOwn(t *testing.T) { // P10.2, R3, R4
 	draw := samples.Drawing(8)
+	points := func(l []api.Task) []int64 { return Points(l, 500) }
 	for range 300 {
-		l := samples.Drawn(draw, 16, 1, 60)
-		told := Points(l, 500)
-		kept := slices.Clone(told)
-		again := Points(l, 500)
-		for i := range l {
-			l[i] = api.Task{ID: 1, C: 7, D: 77, T: 777, Modes: 1}
-		}
-		if !slices.Equal(told, kept) {
-			t.Errorf("%v became %v with the row that was handed in", kept, told)
-		}
-		mine := told[:cap(told)]
-		for i := range mine {
-			mine[i] = -1
-		}
-		if !slices.Equal(again, kept) {
-			t.Errorf("%v, then %v", kept, again)
+		if l := samples.Drawn(draw, 16, 1, 60); !samples.IsOwn(points, l) {
+			t.Errorf("Points(%v): not the same twice, or not the caller's own", l)
 		}
 	}
 }

@@ -32,6 +32,7 @@ func built() []layer {
 		{"param", []string{"slices", "horarium/wide"}},
 		{"demand", []string{"horarium/param"}},
 		{"busy", []string{"horarium/demand", "horarium/param"}},
+		{"qpa", []string{"horarium/busy", "horarium/demand", "horarium/param"}},
 	}
 }
 

@@ -21,6 +21,24 @@ func NoTimes() []int64 {
 	return []int64{math.MinInt64, math.MinInt64 + 1, -Last, -1 << 31, -2, -1, Last + 1, Last + 2, 2 * Last, math.MaxInt64 - 1, math.MaxInt64}
 }
 
+// Named are tasks of these C, D and T, three by three, with IDs from 0 on.
+func Named(numbers ...int64) []api.Task {
+	var l []api.Task
+	for i := 0; i < len(numbers); i += 3 {
+		l = append(l, api.Task{ID: i / 3, C: numbers[i], D: numbers[i+1], T: numbers[i+2], Modes: 1})
+	}
+	return l
+}
+
+// Halves are tasks of 1 of 2, 1 of 4, and so on up to 1 of 2^15, with their T as D, and one of c and d of 2^20, for which 32 are all that is left.
+func Halves(c, d int64) []api.Task {
+	var numbers []int64
+	for n := range 15 {
+		numbers = append(numbers, 1, 2<<n, 2<<n)
+	}
+	return Named(append(numbers, c, d, 1<<20)...)
+}
+
 // Same is n times t.
 func Same(n int, t api.Task) []api.Task {
 	return slices.Repeat([]api.Task{t}, n)
@@ -87,4 +105,89 @@ func Drawn(draw func(n int64) int64, most, least, greatest int64) []api.Task {
 		l = append(l, api.Task{ID: int(draw(1024)), C: 1 + draw(d), D: d, T: t, Modes: 1 + int(draw(15))})
 	}
 	return l
+}
+
+// Dividing are up to 15 tasks of some work each, whose periods divide whole.
+func Dividing(draw func(n int64) int64, whole int64) []api.Task {
+	var l []api.Task
+	n := 1 + draw(15)
+	for range n {
+		t := 1 + draw(whole)
+		for whole%t != 0 {
+			t--
+		}
+		c := 1 + draw(max(1, t/n))
+		l = append(l, api.Task{ID: int(draw(1024)), C: c, D: c + draw(t-c+1), T: t, Modes: 1 + int(draw(15))})
+	}
+	return l
+}
+
+// Filled is l and a task of the period whole, that leaves just left of it (less than none, if left is below 0); false if there is no such task.
+func Filled(l []api.Task, whole, left int64) ([]api.Task, bool) {
+	c := whole - left
+	for _, task := range l {
+		c -= task.C * (whole / task.T)
+	}
+	if c < 1 || c > whole {
+		return nil, false
+	}
+	return append(slices.Clone(l), api.Task{ID: 77, C: c, D: whole, T: whole, Modes: 1}), true
+}
+
+// Common is the least common multiple of all T, found by trying; 0 if it is above 2^20.
+func Common(l []api.Task) int64 {
+	period := int64(1)
+	for _, t := range l {
+		one := period
+		for period%t.T != 0 {
+			period += one
+			if period > 1<<20 {
+				return 0
+			}
+		}
+	}
+	if period > 1<<20 {
+		return 0
+	}
+	return period
+}
+
+// Lasting is the least time from 1 on at which just as much is counted, and the work at each time up to then: time by time. It ends of some tasks, that do not load too much.
+func Lasting(l []api.Task) (int64, []int64) {
+	work := []int64{0}
+	next := make([]int64, len(l))
+	for x := int64(1); ; x++ {
+		now := work[x-1]
+		for i, t := range l {
+			if next[i] < x {
+				now += t.C
+				next[i] += t.T
+			}
+		}
+		work = append(work, now)
+		if now == x {
+			return x, work
+		}
+	}
+}
+
+// IsOwn tells whether what call tells of l is the caller's own: the same both times, and so still when l, and what was told the one time, have other numbers.
+func IsOwn(call func(l []api.Task) []int64, l []api.Task) bool {
+	l = slices.Clone(l)
+	told, again := call(l), call(l)
+	kept := slices.Clone(told)
+	if !slices.Equal(again, kept) {
+		return false
+	}
+	for i := range l {
+		l[i] = api.Task{ID: 1, C: 7, D: 77, T: 777, Modes: 1}
+	}
+	if !slices.Equal(told, kept) {
+		return false
+	}
+	mine := told[:cap(told)]
+	for i := range mine {
+		mine[i] = -1
+	}
+	return slices.Equal(again, kept)
 }
