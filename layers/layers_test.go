@@ -33,6 +33,7 @@ func built() []layer {
 		{"demand", []string{"horarium/param"}},
 		{"busy", []string{"horarium/demand", "horarium/param"}},
 		{"qpa", []string{"horarium/busy", "horarium/demand", "horarium/param"}},
+		{"ops", []string{"horarium/octet", "horarium/param"}},
 	}
 }
 
