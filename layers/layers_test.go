@@ -34,6 +34,7 @@ func built() []layer {
 		{"busy", []string{"horarium/demand", "horarium/param"}},
 		{"qpa", []string{"horarium/busy", "horarium/demand", "horarium/param"}},
 		{"ops", []string{"horarium/octet", "horarium/param"}},
+		{"table", []string{"slices", "sort", "horarium/octet", "horarium/ops", "horarium/param"}},
 	}
 }
 

@@ -3,7 +3,6 @@ package ops
 import (
 	"fmt"
 	"math"
-	"math/big"
 	"slices"
 	"strings"
 	"testing"
@@ -17,26 +16,6 @@ var early = api.Task{ID: 300, C: 1, D: 4, T: 5, Modes: 3}
 
 // whole is a task that may be, with its deadline at its period.
 var whole = api.Task{ID: 7, C: 2, D: 9, T: 9, Modes: 15}
-
-func admits(t api.Task) api.Op {
-	return api.Op{Kind: 1, Task: t}
-}
-
-func serves(t api.Task) api.Op {
-	return api.Op{Kind: 1, Task: t, Server: true}
-}
-
-func removes(id int) api.Op {
-	return api.Op{Kind: 2, ID: id}
-}
-
-func resizes(id int, c int64) api.Op {
-	return api.Op{Kind: 3, ID: id, C: c}
-}
-
-func turnsTo(m int) api.Op {
-	return api.Op{Kind: 4, Mode: m}
-}
 
 // goodTasks are tasks that may be, of small numbers and of those at the bounds.
 func goodTasks() []api.Task {
@@ -61,19 +40,19 @@ func goodTasks() []api.Task {
 func goodOps() []api.Op {
 	var l []api.Op
 	for _, task := range goodTasks() {
-		l = append(l, admits(task))
+		l = append(l, samples.Admits(task))
 		if task.D == task.T {
-			l = append(l, serves(task))
+			l = append(l, samples.Serves(task))
 		}
 	}
 	for id := range 1024 {
-		l = append(l, removes(id))
+		l = append(l, samples.Removes(id))
 		for _, c := range []int64{1, 2, 255, 256, 1<<16 - 1, 1 << 16, 1 << 20, 1<<31 - 1, 1 << 31} {
-			l = append(l, resizes(id, c))
+			l = append(l, samples.Resizes(id, c))
 		}
 	}
 	for m := range 4 {
-		l = append(l, turnsTo(m))
+		l = append(l, samples.TurnsTo(m))
 	}
 	return l
 }
@@ -86,14 +65,14 @@ func drawnOps(n int) []api.Op {
 	for len(l) < n {
 		switch draw(5) {
 		case 0:
-			l = append(l, removes(int(draw(1024))))
+			l = append(l, samples.Removes(int(draw(1024))))
 		case 1:
-			l = append(l, resizes(int(draw(1024)), 1+draw(greatest[draw(4)])))
+			l = append(l, samples.Resizes(int(draw(1024)), 1+draw(greatest[draw(4)])))
 		case 2:
-			l = append(l, turnsTo(int(draw(4))))
+			l = append(l, samples.TurnsTo(int(draw(4))))
 		default:
 			for _, task := range samples.Drawn(draw, 1, 1, greatest[draw(4)]) {
-				o := admits(task)
+				o := samples.Admits(task)
 				o.Server = task.D == task.T && draw(2) == 0
 				l = append(l, o)
 			}
@@ -105,14 +84,14 @@ func drawnOps(n int) []api.Op {
 // wrongOps are ops that may not be, each for another reason; all of them are bare.
 func wrongOps() []api.Op {
 	l := []api.Op{
-		removes(-1), removes(1024), removes(math.MinInt), removes(math.MaxInt),
-		resizes(-1, 1), resizes(1024, 1), resizes(math.MinInt, 1), resizes(math.MaxInt, 1),
-		resizes(0, 0), resizes(0, -1), resizes(1023, 1<<31+1), resizes(7, 1<<32), resizes(7, 1<<32+1), resizes(7, math.MinInt64), resizes(7, math.MaxInt64),
-		turnsTo(-1), turnsTo(4), turnsTo(5), turnsTo(15), turnsTo(math.MinInt), turnsTo(math.MaxInt),
-		serves(early), serves(api.Task{ID: 1, C: 1, D: 1, T: 2, Modes: 1}), serves(api.Task{ID: 1, C: 1, D: 1<<31 - 1, T: 1 << 31, Modes: 1}),
+		samples.Removes(-1), samples.Removes(1024), samples.Removes(math.MinInt), samples.Removes(math.MaxInt),
+		samples.Resizes(-1, 1), samples.Resizes(1024, 1), samples.Resizes(math.MinInt, 1), samples.Resizes(math.MaxInt, 1),
+		samples.Resizes(0, 0), samples.Resizes(0, -1), samples.Resizes(1023, 1<<31+1), samples.Resizes(7, 1<<32), samples.Resizes(7, 1<<32+1), samples.Resizes(7, math.MinInt64), samples.Resizes(7, math.MaxInt64),
+		samples.TurnsTo(-1), samples.TurnsTo(4), samples.TurnsTo(5), samples.TurnsTo(15), samples.TurnsTo(math.MinInt), samples.TurnsTo(math.MaxInt),
+		samples.Serves(early), samples.Serves(api.Task{ID: 1, C: 1, D: 1, T: 2, Modes: 1}), samples.Serves(api.Task{ID: 1, C: 1, D: 1<<31 - 1, T: 1 << 31, Modes: 1}),
 	}
 	for _, task := range samples.Wrong() {
-		l = append(l, admits(task), serves(task))
+		l = append(l, samples.Admits(task), samples.Serves(task))
 	}
 	for _, kind := range noKinds() {
 		l = append(l, api.Op{Kind: kind})
@@ -185,16 +164,6 @@ func mayBe(o api.Op) bool {
 	return false
 }
 
-// worded are numbers as bytes, by the library's numbers, as chapter 3 tells it.
-func worded(numbers ...uint64) string {
-	s := ""
-	for _, n := range numbers {
-		b := new(big.Int).SetUint64(n).Bytes()
-		s += string([]byte{byte(len(b))}) + string(b)
-	}
-	return s
-}
-
 // numbers are all that o says, in the order in which they are put.
 func numbers(o api.Op) []uint64 {
 	l := []uint64{uint64(o.Kind)}
@@ -213,20 +182,6 @@ func numbers(o api.Op) []uint64 {
 	return append(l, uint64(o.Mode))
 }
 
-// parted are the numbers of which s is made, each in as few bytes as it needs; false if it is not made of such.
-func parted(s string) ([]uint64, bool) {
-	var l []uint64
-	for s != "" {
-		n := int(s[0])
-		if n > 8 || n >= len(s) || n > 0 && s[1] == 0 {
-			return nil, false
-		}
-		l = append(l, new(big.Int).SetBytes([]byte(s[1:1+n])).Uint64())
-		s = s[1+n:]
-	}
-	return l, true
-}
-
 // said is the op that says these numbers; false if none that may be does.
 func said(l []uint64) (api.Op, bool) {
 	for _, n := range l {
@@ -239,11 +194,11 @@ func said(l []uint64) (api.Op, bool) {
 	case len(l) == 7 && l[0] == 1 && l[6] <= 1:
 		o = api.Op{Kind: 1, Task: api.Task{ID: int(l[1]), C: int64(l[2]), D: int64(l[3]), T: int64(l[4]), Modes: int(l[5])}, Server: l[6] == 1}
 	case len(l) == 2 && l[0] == 2:
-		o = removes(int(l[1]))
+		o = samples.Removes(int(l[1]))
 	case len(l) == 3 && l[0] == 3:
-		o = resizes(int(l[1]), int64(l[2]))
+		o = samples.Resizes(int(l[1]), int64(l[2]))
 	case len(l) == 2 && l[0] == 4:
-		o = turnsTo(int(l[1]))
+		o = samples.TurnsTo(int(l[1]))
 	}
 	if !mayBe(o) {
 		return api.Op{}, false
@@ -306,7 +261,7 @@ func isNone(t *testing.T, s string) {
 func isRead(t *testing.T, s string) bool {
 	t.Helper()
 	var want api.Op
-	l, is := parted(s)
+	l, is := samples.Parted(s)
 	if is {
 		want, is = said(l)
 	}
@@ -319,34 +274,34 @@ func isRead(t *testing.T, s string) bool {
 }
 
 func TestTheChaptersExample(t *testing.T) { // P13.1
-	writes(t, removes(7), "\x01\x02\x01\x07")
+	writes(t, samples.Removes(7), "\x01\x02\x01\x07")
 }
 
 func TestCheckOfEachKindAtItsBounds(t *testing.T) { // P13.1
 	ids := map[int]bool{math.MinInt: false, -2: false, -1: false, 0: true, 1: true, 1022: true, 1023: true, 1024: false, 1025: false, 1 << 32: false, math.MaxInt: false}
 	for id, want := range ids {
-		checks(t, removes(id), want)
-		checks(t, resizes(id, 1), want)
-		checks(t, resizes(id, 1<<31), want)
+		checks(t, samples.Removes(id), want)
+		checks(t, samples.Resizes(id, 1), want)
+		checks(t, samples.Resizes(id, 1<<31), want)
 	}
 	works := map[int64]bool{math.MinInt64: false, -1: false, 0: false, 1: true, 2: true, 1<<31 - 1: true, 1 << 31: true, 1<<31 + 1: false, 1<<32 + 1: false, math.MaxInt64: false}
 	for c, want := range works {
-		checks(t, resizes(0, c), want)
-		checks(t, resizes(1023, c), want)
-		checks(t, resizes(1024, c), false)
+		checks(t, samples.Resizes(0, c), want)
+		checks(t, samples.Resizes(1023, c), want)
+		checks(t, samples.Resizes(1024, c), false)
 	}
 	modes := map[int]bool{math.MinInt: false, -1: false, 0: true, 1: true, 2: true, 3: true, 4: false, 5: false, 15: false, 1 << 32: false, math.MaxInt: false}
 	for m, want := range modes {
-		checks(t, turnsTo(m), want)
+		checks(t, samples.TurnsTo(m), want)
 	}
 }
 
 func TestCheckOfATask(t *testing.T) { // P13.1
 	for _, task := range goodTasks() {
-		checks(t, admits(task), true)
+		checks(t, samples.Admits(task), true)
 	}
 	for _, task := range samples.Wrong() {
-		checks(t, admits(task), false)
+		checks(t, samples.Admits(task), false)
 	}
 	cases := []struct {
 		task api.Task
@@ -368,28 +323,28 @@ func TestCheckOfATask(t *testing.T) { // P13.1
 		{api.Task{ID: 7, C: 1, D: 2, T: 3, Modes: 16}, false},
 	}
 	for _, c := range cases {
-		checks(t, admits(c.task), c.want)
+		checks(t, samples.Admits(c.task), c.want)
 	}
 }
 
 func TestCheckOfAServer(t *testing.T) { // P13.1
 	for _, task := range goodTasks() {
-		checks(t, serves(task), task.D == task.T)
+		checks(t, samples.Serves(task), task.D == task.T)
 	}
 	for _, task := range samples.Wrong() {
-		checks(t, serves(task), false)
+		checks(t, samples.Serves(task), false)
 	}
-	checks(t, serves(whole), true)
+	checks(t, samples.Serves(whole), true)
 	for _, d := range []int64{2, 3, 8} {
 		task := whole
 		task.D = d
-		checks(t, serves(task), false)
-		checks(t, admits(task), true)
+		checks(t, samples.Serves(task), false)
+		checks(t, samples.Admits(task), true)
 	}
 }
 
 func TestCheckOfWhatAKindDoesNotSay(t *testing.T) { // P13.1
-	kinds := []api.Op{admits(early), admits(whole), serves(whole), removes(0), removes(7), resizes(0, 1), resizes(7, 9), turnsTo(0), turnsTo(2)}
+	kinds := []api.Op{samples.Admits(early), samples.Admits(whole), samples.Serves(whole), samples.Removes(0), samples.Removes(7), samples.Resizes(0, 1), samples.Resizes(7, 9), samples.TurnsTo(0), samples.TurnsTo(2)}
 	for _, o := range kinds {
 		checks(t, o, true)
 		refused := 0
@@ -413,7 +368,7 @@ func TestCheckOfWhatAKindDoesNotSay(t *testing.T) { // P13.1
 func TestCheckOfOtherKinds(t *testing.T) { // P13.1
 	for _, kind := range noKinds() {
 		refuses(t, api.Op{Kind: kind})
-		for _, o := range []api.Op{admits(early), serves(whole), removes(7), resizes(7, 9), turnsTo(2)} {
+		for _, o := range []api.Op{samples.Admits(early), samples.Serves(whole), samples.Removes(7), samples.Resizes(7, 9), samples.TurnsTo(2)} {
 			o.Kind = kind
 			refuses(t, o)
 		}
@@ -423,7 +378,7 @@ func TestCheckOfOtherKinds(t *testing.T) { // P13.1
 
 func TestBareOfEachKind(t *testing.T) { // P13.1
 	full := api.Op{Task: whole, Server: true, ID: 5, C: 6, Mode: 3}
-	cases := map[int]api.Op{1: serves(whole), 2: removes(5), 3: resizes(5, 6), 4: turnsTo(3)}
+	cases := map[int]api.Op{1: samples.Serves(whole), 2: samples.Removes(5), 3: samples.Resizes(5, 6), 4: samples.TurnsTo(3)}
 	for _, kind := range noKinds() {
 		cases[kind] = api.Op{Kind: kind}
 	}
@@ -460,25 +415,25 @@ func TestBareLeavesWhatAKindSaysAsItIs(t *testing.T) { // P13.1
 }
 
 func TestBytesOfEachKind(t *testing.T) { // P13.1
-	writes(t, admits(early), "\x01\x01"+"\x02\x01\x2c"+"\x01\x01"+"\x01\x04"+"\x01\x05"+"\x01\x03"+"\x00")
-	writes(t, serves(whole), "\x01\x01"+"\x01\x07"+"\x01\x02"+"\x01\x09"+"\x01\x09"+"\x01\x0f"+"\x01\x01")
-	writes(t, admits(whole), "\x01\x01"+"\x01\x07"+"\x01\x02"+"\x01\x09"+"\x01\x09"+"\x01\x0f"+"\x00")
-	writes(t, removes(7), "\x01\x02"+"\x01\x07")
-	writes(t, resizes(7, 300), "\x01\x03"+"\x01\x07"+"\x02\x01\x2c")
-	writes(t, turnsTo(2), "\x01\x04"+"\x01\x02")
+	writes(t, samples.Admits(early), "\x01\x01"+"\x02\x01\x2c"+"\x01\x01"+"\x01\x04"+"\x01\x05"+"\x01\x03"+"\x00")
+	writes(t, samples.Serves(whole), "\x01\x01"+"\x01\x07"+"\x01\x02"+"\x01\x09"+"\x01\x09"+"\x01\x0f"+"\x01\x01")
+	writes(t, samples.Admits(whole), "\x01\x01"+"\x01\x07"+"\x01\x02"+"\x01\x09"+"\x01\x09"+"\x01\x0f"+"\x00")
+	writes(t, samples.Removes(7), "\x01\x02"+"\x01\x07")
+	writes(t, samples.Resizes(7, 300), "\x01\x03"+"\x01\x07"+"\x02\x01\x2c")
+	writes(t, samples.TurnsTo(2), "\x01\x04"+"\x01\x02")
 }
 
 func TestBytesOfTheLeastAndTheGreatestNumbers(t *testing.T) { // P13.1, P13.2
 	const most = "\x04\x80\x00\x00\x00"
-	writes(t, admits(api.Task{ID: 0, C: 1, D: 1, T: 1, Modes: 1}), "\x01\x01"+"\x00"+"\x01\x01"+"\x01\x01"+"\x01\x01"+"\x01\x01"+"\x00")
-	writes(t, serves(api.Task{ID: 1023, C: 1 << 31, D: 1 << 31, T: 1 << 31, Modes: 15}), "\x01\x01"+"\x02\x03\xff"+most+most+most+"\x01\x0f"+"\x01\x01")
-	writes(t, admits(api.Task{ID: 1023, C: 1, D: 1<<31 - 1, T: 1 << 31, Modes: 8}), "\x01\x01"+"\x02\x03\xff"+"\x01\x01"+"\x04\x7f\xff\xff\xff"+most+"\x01\x08"+"\x00")
-	writes(t, removes(0), "\x01\x02"+"\x00")
-	writes(t, removes(1023), "\x01\x02"+"\x02\x03\xff")
-	writes(t, resizes(0, 1), "\x01\x03"+"\x00"+"\x01\x01")
-	writes(t, resizes(1023, 1<<31), "\x01\x03"+"\x02\x03\xff"+most)
-	writes(t, turnsTo(0), "\x01\x04"+"\x00")
-	writes(t, turnsTo(3), "\x01\x04"+"\x01\x03")
+	writes(t, samples.Admits(api.Task{ID: 0, C: 1, D: 1, T: 1, Modes: 1}), "\x01\x01"+"\x00"+"\x01\x01"+"\x01\x01"+"\x01\x01"+"\x01\x01"+"\x00")
+	writes(t, samples.Serves(api.Task{ID: 1023, C: 1 << 31, D: 1 << 31, T: 1 << 31, Modes: 15}), "\x01\x01"+"\x02\x03\xff"+most+most+most+"\x01\x0f"+"\x01\x01")
+	writes(t, samples.Admits(api.Task{ID: 1023, C: 1, D: 1<<31 - 1, T: 1 << 31, Modes: 8}), "\x01\x01"+"\x02\x03\xff"+"\x01\x01"+"\x04\x7f\xff\xff\xff"+most+"\x01\x08"+"\x00")
+	writes(t, samples.Removes(0), "\x01\x02"+"\x00")
+	writes(t, samples.Removes(1023), "\x01\x02"+"\x02\x03\xff")
+	writes(t, samples.Resizes(0, 1), "\x01\x03"+"\x00"+"\x01\x01")
+	writes(t, samples.Resizes(1023, 1<<31), "\x01\x03"+"\x02\x03\xff"+most)
+	writes(t, samples.TurnsTo(0), "\x01\x04"+"\x00")
+	writes(t, samples.TurnsTo(3), "\x01\x04"+"\x01\x03")
 }
 
 func TestBytesOfOpsThatMayNotBe(t *testing.T) { // P13.1, R2
@@ -490,7 +445,7 @@ func TestBytesOfOpsThatMayNotBe(t *testing.T) { // P13.1, R2
 func TestWhatWasWrittenIsRead(t *testing.T) { // P13.1, P13.2
 	greatest := 0
 	for _, o := range append(goodOps(), drawnOps(100000)...) {
-		want := worded(numbers(o)...)
+		want := samples.Worded(numbers(o)...)
 		writes(t, o, want)
 		greatest = max(greatest, len(want))
 	}
@@ -520,7 +475,7 @@ func TestReadOfNothing(t *testing.T) { // P13.1, R1
 
 func TestReadOfBytesThatAreCutOrGoOn(t *testing.T) { // P13.1
 	for _, o := range drawnOps(500) {
-		s := worded(numbers(o)...)
+		s := samples.Worded(numbers(o)...)
 		for at := range len(s) {
 			isNone(t, s[:at])
 			isRead(t, s[at:])
@@ -535,18 +490,13 @@ func TestReadOfBytesThatAreCutOrGoOn(t *testing.T) { // P13.1
 }
 
 func TestReadOfBytesOfWhichOneIsTurned(t *testing.T) { // P13.1
-	ops := append(drawnOps(100), admits(early), serves(whole), removes(7), resizes(1023, 1<<31), turnsTo(0))
+	ops := append(drawnOps(100), samples.Admits(early), samples.Serves(whole), samples.Removes(7), samples.Resizes(1023, 1<<31), samples.TurnsTo(0))
 	is := 0
 	for _, o := range ops {
-		s := []byte(worded(numbers(o)...))
-		for at, b := range s {
-			for turn := 1; turn < 256; turn++ {
-				s[at] = b ^ byte(turn)
-				if isRead(t, string(s)) {
-					is++
-				}
+		for s := range samples.Turned(samples.Worded(numbers(o)...)) {
+			if isRead(t, s) {
+				is++
 			}
-			s[at] = b
 		}
 	}
 	if is < 1000 {
@@ -555,78 +505,63 @@ func TestReadOfBytesOfWhichOneIsTurned(t *testing.T) { // P13.1
 }
 
 func TestReadOfOtherKinds(t *testing.T) { // P13.1
-	for _, o := range []api.Op{admits(early), serves(whole), removes(2), resizes(2, 1), turnsTo(2)} {
+	for _, o := range []api.Op{samples.Admits(early), samples.Serves(whole), samples.Removes(2), samples.Resizes(2, 1), samples.TurnsTo(2)} {
 		l := numbers(o)
 		for _, kind := range []uint64{0, 5, 6, 7, 127, 128, 255, 256, 257, 1 << 32, 1<<32 + 2, math.MaxInt64, 1 << 63, 1<<63 + 1, math.MaxUint64} {
-			isNone(t, worded(kind))
-			isNone(t, worded(append([]uint64{kind}, l[1:]...)...))
+			isNone(t, samples.Worded(kind))
+			isNone(t, samples.Worded(append([]uint64{kind}, l[1:]...)...))
 		}
 		for kind := uint64(1); kind <= 4; kind++ {
-			isNone(t, worded(kind))
-			isRead(t, worded(append([]uint64{kind}, l[1:]...)...))
+			isNone(t, samples.Worded(kind))
+			isRead(t, samples.Worded(append([]uint64{kind}, l[1:]...)...))
 		}
 	}
 }
 
 func TestReadOfNumbersOutOfTheirBounds(t *testing.T) { // P13.1
-	outside := []uint64{0, 1, 2, 3, 4, 15, 16, 17, 1023, 1024, 1025, 1<<31 - 1, 1 << 31, 1<<31 + 1, 1 << 32, 1<<32 + 1, math.MaxInt64, 1 << 63, 1<<63 + 1, math.MaxUint64}
 	is, none := 0, 0
-	for _, o := range append(drawnOps(1000), admits(early), serves(whole), removes(7), resizes(7, 9), turnsTo(1)) {
-		for at := range numbers(o) {
-			for _, n := range outside {
-				l := numbers(o)
-				l[at] = n
-				if isRead(t, worded(l...)) {
-					is++
-				} else {
-					none++
-				}
+	for _, o := range append(drawnOps(1000), samples.Admits(early), samples.Serves(whole), samples.Removes(7), samples.Resizes(7, 9), samples.TurnsTo(1)) {
+		for _, s := range samples.Replaced(numbers(o)) {
+			if isRead(t, s) {
+				is++
+			} else {
+				none++
 			}
 		}
 	}
 	if is < 1000 || none < 1000 {
 		t.Errorf("%d are an op's, %d are none's: too few of one kind", is, none)
 	}
-	isNone(t, worded(2, 1024))
-	isNone(t, worded(3, 1024, 1))
-	isNone(t, worded(3, 7, 0))
-	isNone(t, worded(3, 7, 1<<31+1))
-	isNone(t, worded(4, 4))
-	isNone(t, worded(1, 1024, 1, 4, 5, 3, 0))
-	isNone(t, worded(1, 300, 0, 4, 5, 3, 0))
-	isNone(t, worded(1, 300, 5, 4, 5, 3, 0))
-	isNone(t, worded(1, 300, 1, 6, 5, 3, 0))
-	isNone(t, worded(1, 300, 1, 4, 1<<31+1, 3, 0))
-	isNone(t, worded(1, 300, 1, 4, 5, 0, 0))
-	isNone(t, worded(1, 300, 1, 4, 5, 16, 0))
-	isNone(t, worded(1, 300, 1, 4, 5, 3, 1)) // a server whose D is not its T
+	isNone(t, samples.Worded(2, 1024))
+	isNone(t, samples.Worded(3, 1024, 1))
+	isNone(t, samples.Worded(3, 7, 0))
+	isNone(t, samples.Worded(3, 7, 1<<31+1))
+	isNone(t, samples.Worded(4, 4))
+	isNone(t, samples.Worded(1, 1024, 1, 4, 5, 3, 0))
+	isNone(t, samples.Worded(1, 300, 0, 4, 5, 3, 0))
+	isNone(t, samples.Worded(1, 300, 5, 4, 5, 3, 0))
+	isNone(t, samples.Worded(1, 300, 1, 6, 5, 3, 0))
+	isNone(t, samples.Worded(1, 300, 1, 4, 1<<31+1, 3, 0))
+	isNone(t, samples.Worded(1, 300, 1, 4, 5, 0, 0))
+	isNone(t, samples.Worded(1, 300, 1, 4, 5, 16, 0))
+	isNone(t, samples.Worded(1, 300, 1, 4, 5, 3, 1)) // a server whose D is not its T
 }
 
 func TestReadOfNumbersOfMoreBytesThanTheyNeed(t *testing.T) { // P13.1
-	for _, o := range append(drawnOps(1000), admits(early), serves(whole), removes(7), resizes(7, 9), turnsTo(0)) {
-		l := numbers(o)
-		for at, n := range l {
-			short := worded(n)
-			for more := 1; int(short[0])+more <= 9; more++ {
-				long := string([]byte{short[0] + byte(more)}) + strings.Repeat("\x00", more) + short[1:]
-				isNone(t, worded(l[:at]...)+long+worded(l[at+1:]...))
-			}
+	for _, o := range append(drawnOps(1000), samples.Admits(early), samples.Serves(whole), samples.Removes(7), samples.Resizes(7, 9), samples.TurnsTo(0)) {
+		for _, s := range samples.Padded(numbers(o)) {
+			isNone(t, s)
 		}
 	}
 }
 
 func TestReadOfFlagsThatAreNeither(t *testing.T) { // P13.1
-	l := numbers(admits(whole))
-	for _, n := range []uint64{2, 3, 127, 128, 255, 256, 257, 1 << 32, 1<<32 + 1, 1 << 63, math.MaxUint64} {
-		l[6] = n
-		isNone(t, worded(l...))
-	}
-	s := worded(l[:6]...)
-	for _, flag := range []string{"", "\x01", "\x01\x00", "\x02\x00\x01", "\x02\x01", "\x09", "\xff", "\x00\x00", "\x01\x01\x00"} {
+	s := samples.Worded(numbers(samples.Admits(whole))[:6]...)
+	for _, flag := range samples.NoFlags() {
 		isNone(t, s+flag)
 	}
-	writes(t, admits(whole), s+"\x00")
-	writes(t, serves(whole), s+"\x01\x01")
+	writes(t, samples.Admits(whole), s+"\x00")
+	writes(t, samples.Serves(whole), s+"\x01\x01")
 }
 
 func TestReadOfLongTexts(t *testing.T) { // P13.1, R5
@@ -643,22 +578,11 @@ func TestReadOfLongTexts(t *testing.T) { // P13.1, R5
 }
 
 func TestReadOfAllShortTextsOfSomeBytes(t *testing.T) { // P13.1
-	bytes := []byte{0, 1, 2, 3, 4, 5, 8, 9, 255}
 	is := 0
-	last := []string{""}
-	for range 6 {
-		var longer []string
-		for _, s := range last {
-			for _, b := range bytes {
-				longer = append(longer, s+string([]byte{b}))
-			}
+	for _, s := range samples.Short(6, 0, 1, 2, 3, 4, 5, 8, 9, 255) {
+		if isRead(t, s) {
+			is++
 		}
-		for _, s := range longer {
-			if isRead(t, s) {
-				is++
-			}
-		}
-		last = longer
 	}
 	// 1, 8 and 27 IDs of one, two and three bytes of a remove, 4 modes, and of a resize 80 Cs of ID 0, and 8 of 8 other ones.
 	if want := 36 + 4 + 80 + 64; is != want {
@@ -684,7 +608,7 @@ func TestWhatReadTellsHasJustTheseBytes(t *testing.T) { // P13.1
 			slices.Sort(l[2:5])
 			l[0], l[5], l[6] = 1, 1+uint64(draw(16)), uint64(draw(3))
 		}
-		s := []byte(worded(l...))
+		s := []byte(samples.Worded(l...))
 		if len(s) > 0 && draw(4) == 0 {
 			s[draw(int64(len(s)))] = byte(draw(256))
 		}
@@ -743,7 +667,7 @@ func isAsTheWordsTell(t *testing.T, o api.Op) {
 	for _, x := range []api.Op{o, bare} {
 		if mayBe(x) {
 			checks(t, x, true)
-			writes(t, x, worded(numbers(x)...))
+			writes(t, x, samples.Worded(numbers(x)...))
 		} else {
 			refuses(t, x)
 		}

@@ -1,4 +1,4 @@
-// Package samples has tasks and times for the tests of the layers that reckon with them. No layer imports it.
+// Package samples has tasks, times and ops for the tests of the layers that reckon with them, and bytes for those of the layers that read them. No layer imports it.
 package samples
 
 import (
@@ -190,4 +190,29 @@ func IsOwn(call func(l []api.Task) []int64, l []api.Task) bool {
 		mine[i] = -1
 	}
 	return slices.Equal(again, kept)
+}
+
+// Admits is the op that admits a task.
+func Admits(t api.Task) api.Op {
+	return api.Op{Kind: api.OpAdmit, Task: t}
+}
+
+// Serves is the op that admits a server.
+func Serves(t api.Task) api.Op {
+	return api.Op{Kind: api.OpAdmit, Task: t, Server: true}
+}
+
+// Removes is the op that removes the task of that ID.
+func Removes(id int) api.Op {
+	return api.Op{Kind: api.OpRemove, ID: id}
+}
+
+// Resizes is the op that gives the task of that ID another C.
+func Resizes(id int, c int64) api.Op {
+	return api.Op{Kind: api.OpResize, ID: id, C: c}
+}
+
+// TurnsTo is the op that sets the mode.
+func TurnsTo(mode int) api.Op {
+	return api.Op{Kind: api.OpMode, Mode: mode}
 }
