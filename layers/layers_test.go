@@ -35,6 +35,7 @@ func built() []layer {
 		{"qpa", []string{"horarium/busy", "horarium/demand", "horarium/param"}},
 		{"ops", []string{"horarium/octet", "horarium/param"}},
 		{"table", []string{"slices", "sort", "horarium/octet", "horarium/ops", "horarium/param"}},
+		{"judge", []string{"horarium/qpa", "horarium/table"}},
 	}
 }
 

@@ -12,17 +12,12 @@ import (
 	"horarium/samples"
 )
 
-// named are tasks of these C, D and T, in the first mode.
-var named = samples.Named
-
-// moded are tasks of these Modes, C, D and T, four by four.
-func moded(numbers ...int64) []api.Task {
-	var l []api.Task
-	for i := 0; i < len(numbers); i += 4 {
-		l = append(l, api.Task{ID: i / 4, Modes: int(numbers[i]), C: numbers[i+1], D: numbers[i+2], T: numbers[i+3]})
-	}
-	return l
-}
+// The tasks, and their counts, that tests of many layers look at.
+var (
+	named = samples.Named
+	moded = samples.Moded
+	dues  = samples.Dues
+)
 
 // some is a row of tasks that may be, of one of many kinds.
 func some(draw func(n int64) int64) []api.Task {
@@ -104,20 +99,6 @@ func count(l []api.Task) plain {
 		}
 	}
 	return p
-}
-
-// dues is how much is due by each time up to end.
-func dues(l []api.Task, end int64) []int64 {
-	due := make([]int64, end+1)
-	for _, task := range l {
-		for x := task.D; x <= end; x += task.T {
-			due[x] += task.C
-		}
-	}
-	for x := int64(1); x <= end; x++ {
-		due[x] += due[x-1]
-	}
-	return due
 }
 
 // ahead is the greatest deadline below x; 0 if there is none.

@@ -1,4 +1,4 @@
-// Package samples has tasks, times and ops for the tests of the layers that reckon with them, and bytes for those of the layers that read them. No layer imports it.
+// Package samples has tasks, tables, times and ops for the tests of the layers that reckon with them, and bytes for those of the layers that read them. No layer imports it.
 package samples
 
 import (
@@ -26,6 +26,15 @@ func Named(numbers ...int64) []api.Task {
 	var l []api.Task
 	for i := 0; i < len(numbers); i += 3 {
 		l = append(l, api.Task{ID: i / 3, C: numbers[i], D: numbers[i+1], T: numbers[i+2], Modes: 1})
+	}
+	return l
+}
+
+// Moded are tasks of these Modes, C, D and T, four by four, with IDs from 0 on.
+func Moded(numbers ...int64) []api.Task {
+	var l []api.Task
+	for i := 0; i < len(numbers); i += 4 {
+		l = append(l, api.Task{ID: i / 4, Modes: int(numbers[i]), C: numbers[i+1], D: numbers[i+2], T: numbers[i+3]})
 	}
 	return l
 }
@@ -150,6 +159,20 @@ func Common(l []api.Task) int64 {
 		return 0
 	}
 	return period
+}
+
+// Dues is how much is due by each time up to end.
+func Dues(l []api.Task, end int64) []int64 {
+	due := make([]int64, end+1)
+	for _, task := range l {
+		for x := task.D; x <= end; x += task.T {
+			due[x] += task.C
+		}
+	}
+	for x := int64(1); x <= end; x++ {
+		due[x] += due[x-1]
+	}
+	return due
 }
 
 // Lasting is the least time from 1 on at which just as much is counted, and the work at each time up to then: time by time. It ends of some tasks, that do not load too much.

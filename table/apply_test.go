@@ -66,24 +66,6 @@ func applied(t api.Table, o api.Op) (api.Table, api.Errno) {
 	return risen(mode, rows), api.OK
 }
 
-// roomy is t, with rows that lie amid others: what lies in front of and behind them is the caller's, too.
-func roomy(t api.Table) (api.Table, []api.Row) {
-	all := make([]api.Row, len(t.Rows)+8)
-	for i := range all {
-		all[i] = row(500 + i)
-	}
-	copy(all[4:], t.Rows)
-	return api.Table{Rows: all[4 : 4+len(t.Rows)], Mode: t.Mode}, all
-}
-
-// spoil changes all rows of l, and those for which it has room.
-func spoil(l []api.Row) {
-	l = l[:cap(l)]
-	for i := range l {
-		l[i] = api.Row{Task: api.Task{ID: -1, C: -2, D: -3, T: -4, Modes: -5}, Server: true}
-	}
-}
-
 // applies looks at what Apply tells of t and o, and that it is the caller's own, and t left as it was.
 func applies(t *testing.T, x api.Table, o api.Op) api.Errno {
 	t.Helper()

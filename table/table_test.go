@@ -9,95 +9,25 @@ import (
 	"horarium/samples"
 )
 
+// The tables and rows that tests of many layers look at.
+var (
+	row     = samples.Row
+	of      = samples.Table
+	rising  = samples.Rising
+	drawn   = samples.DrawnTable
+	risen   = samples.Risen
+	good    = samples.Tables
+	wrong   = samples.WrongTables
+	altered = samples.Altered
+	copied  = samples.Copied
+	equal   = samples.Equal
+	roomy   = samples.Roomy
+	spoil   = samples.Spoil
+)
+
 // extremes are ints that are no ID and no mode, at the ends of what there is.
 func extremes() []int {
 	return []int{math.MinInt, math.MinInt + 1, -1 << 32, -1024, -2, 1025, 1 << 31, 1 << 32, math.MaxInt - 1, math.MaxInt}
-}
-
-// row is one that may be, of numbers that hang on its ID; every third one is a server.
-func row(id int) api.Row {
-	t := api.Task{ID: id, C: 2 + int64(id%3), D: 6 + int64(id%5), T: 12 + int64(id%7), Modes: 1 + id%15}
-	if id%3 == 0 {
-		t.D = t.T
-	}
-	return api.Row{Task: t, Server: id%3 == 0}
-}
-
-// of is a table of rows of these IDs, as they stand.
-func of(mode int, ids ...int) api.Table {
-	t := api.Table{Mode: mode}
-	for _, id := range ids {
-		t.Rows = append(t.Rows, row(id))
-	}
-	return t
-}
-
-// rising is a table of n rows, whose IDs are 10, 20 and so on, so that there is room between any two.
-func rising(n int) api.Table {
-	t := of(n % 4)
-	for i := range n {
-		t.Rows = append(t.Rows, row(10*(i+1)))
-	}
-	return t
-}
-
-// drawn is a table of n rows that may be, of IDs below most, that looks drawn by chance.
-func drawn(draw func(n int64) int64, n int, most int64) api.Table {
-	greatest := []int64{3, 300, 1 << 20, 1 << 31}
-	rows := map[int]api.Row{}
-	for len(rows) < n {
-		for _, task := range samples.Drawn(draw, 1, 1, greatest[draw(4)]) {
-			task.ID = int(draw(most))
-			rows[task.ID] = api.Row{Task: task, Server: task.D == task.T && draw(2) == 0}
-		}
-	}
-	return risen(int(draw(4)), rows)
-}
-
-// risen is the table of these rows, by rising IDs.
-func risen(mode int, rows map[int]api.Row) api.Table {
-	t := api.Table{Mode: mode}
-	for id := range 1024 {
-		if r, ok := rows[id]; ok {
-			t.Rows = append(t.Rows, r)
-		}
-	}
-	return t
-}
-
-// good are tables that may be, of all numbers of rows.
-func good() []api.Table {
-	l := []api.Table{{}, {Rows: []api.Row{}, Mode: 3}, of(0, 0), of(3, 1023), of(1, 0, 1023), of(2, 0, 1, 2, 3), of(0, 1008, 1009, 1022, 1023)}
-	draw := samples.Drawing(14)
-	for n := range 17 {
-		l = append(l, rising(n), drawn(draw, n, 1024), drawn(draw, n, 20))
-	}
-	return l
-}
-
-// altered is a copy of t, of which change has changed the row at that place.
-func altered(t api.Table, at int, change func(r *api.Row)) api.Table {
-	t.Rows = slices.Clone(t.Rows)
-	change(&t.Rows[at])
-	return t
-}
-
-// wrong are tables that may not be, each for another reason.
-func wrong() []api.Table {
-	l := []api.Table{rising(17), rising(18), rising(100), of(-1), of(4), of(-1, 5), of(4, 5), of(math.MinInt, 5), of(math.MaxInt, 5),
-		of(0, 5, 5), of(0, 6, 5), of(0, 1, 2, 2), of(0, 1, 3, 2), of(0, 2, 1, 3), of(0, 1, 1, 2), of(0, 3, 2, 1), of(1, 1023, 0)}
-	for _, n := range []int{1, 2, 3, 16} {
-		for at := range n {
-			for _, task := range samples.Wrong() {
-				if 0 <= task.ID && task.ID <= 1023 {
-					task.ID = 10 * (at + 1)
-				}
-				l = append(l, altered(rising(n), at, func(r *api.Row) { r.Task = task }))
-			}
-			l = append(l, altered(rising(n), at, func(r *api.Row) { r.Server, r.Task.D = true, r.Task.T-1 }))
-		}
-	}
-	return l
 }
 
 // isTable tells it as the chapter's words do, part by part.
@@ -117,20 +47,6 @@ func isTable(t api.Table) bool {
 		last = t.ID
 	}
 	return true
-}
-
-// copied is t, in rows of their own.
-func copied(t api.Table) api.Table {
-	return api.Table{Rows: slices.Clone(t.Rows), Mode: t.Mode}
-}
-
-// equal tells whether a and b have the same parts.
-func equal(a, b api.Table) bool {
-	is := a.Mode == b.Mode && len(a.Rows) == len(b.Rows)
-	for i := 0; is && i < len(a.Rows); i++ {
-		is = a.Rows[i] == b.Rows[i]
-	}
-	return is
 }
 
 // checks looks at what Check tells.
