@@ -36,6 +36,7 @@ func built() []layer {
 		{"ops", []string{"horarium/octet", "horarium/param"}},
 		{"table", []string{"slices", "sort", "horarium/octet", "horarium/ops", "horarium/param"}},
 		{"judge", []string{"horarium/qpa", "horarium/table"}},
+		{"heap", nil},
 	}
 }
 
