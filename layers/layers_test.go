@@ -37,6 +37,7 @@ func built() []layer {
 		{"table", []string{"slices", "sort", "horarium/octet", "horarium/ops", "horarium/param"}},
 		{"judge", []string{"horarium/qpa", "horarium/table"}},
 		{"heap", nil},
+		{"guard", []string{"slices"}},
 	}
 }
 
