@@ -38,6 +38,7 @@ func built() []layer {
 		{"judge", []string{"horarium/qpa", "horarium/table"}},
 		{"heap", nil},
 		{"guard", []string{"slices"}},
+		{"edf", []string{"horarium/heap"}},
 	}
 }
 
