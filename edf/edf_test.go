@@ -19,11 +19,6 @@ func ids() []int {
 	return []int{0, 1, 2, 3, 9, 15, 16, 1023, 1024, 1 << 31, 1 << 32, 1<<32 + 1, math.MaxInt - 1, math.MaxInt, -1, -2, -1023, -1 << 31, -1 << 32, math.MinInt + 1, math.MinInt}
 }
 
-// noLefts are numbers that are not how much may be left.
-func noLefts() []int64 {
-	return []int64{math.MinInt64, math.MinInt64 + 1, -api.MaxT, -2, -1, 0, api.MaxT + 1, api.MaxT + 2, 1 << 32, 1<<32 + 1, samples.Last, math.MaxInt64 - 1, math.MaxInt64}
-}
-
 // noDeadlines are numbers that are no deadline of what is released then.
 func noDeadlines(release int64) []int64 {
 	return []int64{math.MinInt64, math.MinInt64 + 1, -lastDue, -1, 0, release / 2, release - 1, release, lastDue + 1, lastDue + 2, math.MaxInt64 - 1, math.MaxInt64}
@@ -32,7 +27,7 @@ func noDeadlines(release int64) []int64 {
 // wrong are jobs of that ID that may not be, each for another reason, or for more than one.
 func wrong(id int) []api.Job {
 	var l []api.Job
-	for _, left := range noLefts() {
+	for _, left := range samples.NoSpans() {
 		l = append(l, api.Job{ID: id, Release: 3, Deadline: 9, Left: left})
 	}
 	for _, release := range samples.NoTimes() {

@@ -68,7 +68,7 @@ func (d *drawing) id() int {
 // period is one that may be, and now and then one that may not.
 func (d *drawing) period() int64 {
 	if d.draw(12) == 0 {
-		return noPeriods()[d.draw(int64(len(noPeriods())))]
+		return samples.NoSpans()[d.draw(int64(len(samples.NoSpans())))]
 	}
 	return 1 + d.draw(d.most)
 }

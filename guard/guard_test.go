@@ -21,16 +21,6 @@ func ids() []int {
 	return []int{0, 1, 2, 3, 9, 15, 16, 1023, 1024, 1 << 31, 1 << 32, 1<<32 + 1, math.MaxInt - 1, math.MaxInt, -1, -2, -1023, -1 << 31, -1 << 32, math.MinInt + 1, math.MinInt}
 }
 
-// periods are some that may be, with the least and the greatest ones.
-func periods() []int64 {
-	return []int64{1, 2, 3, 100, 1 << 20, 1<<20 + 1, api.MaxT - 1, api.MaxT}
-}
-
-// noPeriods are numbers that are no period.
-func noPeriods() []int64 {
-	return []int64{math.MinInt64, math.MinInt64 + 1, -api.MaxT, -2, -1, 0, api.MaxT + 1, api.MaxT + 2, 1 << 32, 1<<32 + 1, samples.Last, math.MaxInt64 - 1, math.MaxInt64}
-}
-
 // releases looks at a Release that must be done.
 func releases(t *testing.T, g *Guard, id int, period, now int64) {
 	t.Helper()
@@ -124,7 +114,7 @@ func TestNewKnowsNothing(t *testing.T) { // P17.1
 }
 
 func TestPeriodsThatMayBe(t *testing.T) { // P17.1
-	for _, period := range periods() {
+	for _, period := range samples.Spans() {
 		g := New()
 		releases(t, g, 7, period, 5)
 		knows(t, fmt.Sprint("period ", period), g, known{7, 5, 5 + period})
@@ -132,7 +122,7 @@ func TestPeriodsThatMayBe(t *testing.T) { // P17.1
 }
 
 func TestPeriodsThatMayNotBe(t *testing.T) { // P17.1
-	for _, period := range noPeriods() {
+	for _, period := range samples.NoSpans() {
 		what := fmt.Sprint("period ", period)
 		g := New()
 		for _, now := range samples.Times() {
@@ -150,7 +140,7 @@ func TestPeriodsThatMayNotBe(t *testing.T) { // P17.1
 
 func TestTimesThatMayBe(t *testing.T) { // P17.1
 	for _, now := range samples.Times() {
-		for _, period := range periods() {
+		for _, period := range samples.Spans() {
 			g := New()
 			releases(t, g, 7, period, now)
 			knows(t, fmt.Sprintf("at %d, period %d", now, period), g, known{7, now, now + period})
@@ -162,7 +152,7 @@ func TestTimesThatMayNotBe(t *testing.T) { // P17.1
 	for _, now := range samples.NoTimes() {
 		what := fmt.Sprint("at ", now)
 		g := New()
-		for _, period := range periods() {
+		for _, period := range samples.Spans() {
 			is(t, g, 7, period, now, api.ErrArg)
 		}
 		knows(t, what, g)
@@ -175,7 +165,7 @@ func TestTimesThatMayNotBe(t *testing.T) { // P17.1
 }
 
 func TestPeriodAndTimeThatMayNotBe(t *testing.T) { // P17.1
-	for _, period := range noPeriods() {
+	for _, period := range samples.NoSpans() {
 		for _, now := range samples.NoTimes() {
 			g, was := some(t)
 			is(t, g, 3, period, now, api.ErrArg)
@@ -190,7 +180,7 @@ func TestWrongIsNamedAheadOfEarly(t *testing.T) { // P17.1, R2
 	g, was := some(t)
 	for _, now := range []int64{0, 19, 29} {
 		is(t, g, 3, 10, now, api.ErrEarly)
-		for _, period := range noPeriods() {
+		for _, period := range samples.NoSpans() {
 			is(t, g, 3, period, now, api.ErrArg)
 		}
 	}
@@ -215,7 +205,7 @@ func TestFirstRelease(t *testing.T) { // P17.1
 
 func TestSecondRelease(t *testing.T) { // P17.1, P17.2
 	for _, id := range ids() {
-		for _, period := range periods() {
+		for _, period := range samples.Spans() {
 			for _, first := range []int64{0, 1, 5, 1 << 31, samples.Last - 1<<32} {
 				next := first + period
 				for _, now := range []int64{0, first - 1, first, first + 1, next - 1, next, next + 1, next + period, samples.Last - 1, samples.Last} {
@@ -245,7 +235,7 @@ func second(t *testing.T, id int, period, first, now int64) {
 
 // TestReleasesAtTheEnd: behind the greatest time there is Next, but no release.
 func TestReleasesAtTheEnd(t *testing.T) { // P17.1
-	for _, period := range periods() {
+	for _, period := range samples.Spans() {
 		g := New()
 		releases(t, g, 1, period, samples.Last-period)
 		releases(t, g, 1, period, samples.Last)
@@ -275,8 +265,8 @@ func TestAnotherPeriod(t *testing.T) { // P17.1, P17.2
 }
 
 func TestAnotherPeriodOfAllKinds(t *testing.T) { // P17.1, P17.2
-	for _, one := range periods() {
-		for _, other := range periods() {
+	for _, one := range samples.Spans() {
+		for _, other := range samples.Spans() {
 			what := fmt.Sprintf("period %d, then %d", one, other)
 			g := New()
 			releases(t, g, 8, one, 1)
@@ -293,7 +283,7 @@ func TestEarlyChangesNothing(t *testing.T) { // P17.1
 	g, was := some(t)
 	for _, k := range was {
 		for _, now := range []int64{0, k.last / 2, k.last, k.next / 2, k.next - 1} {
-			for _, period := range periods() {
+			for _, period := range samples.Spans() {
 				is(t, g, k.id, period, now, api.ErrEarly)
 			}
 			knows(t, fmt.Sprintf("%d early at %d", k.id, now), g, was...)

@@ -39,6 +39,7 @@ func built() []layer {
 		{"heap", nil},
 		{"guard", []string{"slices"}},
 		{"edf", []string{"horarium/heap"}},
+		{"server", []string{"slices"}},
 	}
 }
 

@@ -21,6 +21,16 @@ func NoTimes() []int64 {
 	return []int64{math.MinInt64, math.MinInt64 + 1, -Last, -1 << 31, -2, -1, Last + 1, Last + 2, 2 * Last, math.MaxInt64 - 1, math.MaxInt64}
 }
 
+// Spans are some of all numbers from 1 to MaxT, which a period, or some work, may be, with the least and the greatest ones.
+func Spans() []int64 {
+	return []int64{1, 2, 3, 100, 1 << 20, 1<<20 + 1, api.MaxT - 1, api.MaxT}
+}
+
+// NoSpans are numbers that are none of these.
+func NoSpans() []int64 {
+	return []int64{math.MinInt64, math.MinInt64 + 1, -api.MaxT, -2, -1, 0, api.MaxT + 1, api.MaxT + 2, 1 << 32, 1<<32 + 1, Last, math.MaxInt64 - 1, math.MaxInt64}
+}
+
 // Named are tasks of these C, D and T, three by three, with IDs from 0 on.
 func Named(numbers ...int64) []api.Task {
 	var l []api.Task
