@@ -88,7 +88,7 @@ func places(look func(n, at int)) {
 }
 
 func TestGoneOfATableAndItself(t *testing.T) { // P15.3
-	for _, x := range append(samples.Tables(), fitting()...) {
+	for _, x := range append(samples.Tables(), samples.Fitting()...) {
 		for mode := range 4 {
 			leaves(t, in(x, mode), in(x, mode))
 		}
@@ -211,7 +211,7 @@ func TestGoneOfWhatHasAnotherC(t *testing.T) { // P15.3
 			}
 		}
 	})
-	great := set(0, 15, 1<<31, 1<<31, 1<<31)
+	great := samples.Set(0, 15, 1<<31, 1<<31, 1<<31)
 	leaves(t, great, samples.Altered(great, 0, func(r *api.Row) { r.Task.C = 1 }), api.Task{ID: 10, C: 1<<31 - 1, D: 1 << 31, T: 1 << 31, Modes: 15})
 	leaves(t, great, samples.Altered(great, 0, func(r *api.Row) { r.Task.C = 1<<31 - 1 }), api.Task{ID: 10, C: 1, D: 1 << 31, T: 1 << 31, Modes: 15})
 }
@@ -222,7 +222,7 @@ func TestGoneOfTwoModes(t *testing.T) { // P15.3
 	for modes := int64(1); modes < 16; modes++ {
 		numbers = append(numbers, modes, 2, 4, 8)
 	}
-	x := set(0, numbers...)
+	x := samples.Set(0, numbers...)
 	for from := range 4 {
 		for to := range 4 {
 			var want, less []api.Task
@@ -309,7 +309,7 @@ func TestGoneOfManyDrawnSets(t *testing.T) { // P15.3
 	draw := samples.Drawing(18)
 	whole, part, nothing := 0, 0, 0
 	for range 20000 {
-		a := drawn(draw)
+		a := samples.DrawnSet(draw)
 		b := changed(draw, a)
 		want := goneOf(a, b)
 		leaves(t, a, b, want...)

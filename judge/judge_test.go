@@ -11,90 +11,6 @@ import (
 	"horarium/samples"
 )
 
-// tooGreat is a period that is above the greatest one that tasks may have.
-const tooGreat = 1<<20 + 1
-
-// set is a table of that Mode, of tasks of these Modes, C, D and T, four by four, with IDs 10, 20 and so on.
-func set(mode int, numbers ...int64) api.Table {
-	t := api.Table{Mode: mode}
-	for i, task := range samples.Moded(numbers...) {
-		task.ID = 10 * (i + 1)
-		t.Rows = append(t.Rows, api.Row{Task: task})
-	}
-	return t
-}
-
-// small are n tasks of 1 of 128 each, of one mode that is not 0, so that any 128 of them fit.
-func small(n int) []api.Task {
-	return samples.Same(n, samples.Moded(2, 1, 128, 128)[0])
-}
-
-// smalls is a set of that Mode, of n tasks of these Modes, that are as small, and of m of those.
-func smalls(mode int, modes int64, n int, others int64, m int) api.Table {
-	var numbers []int64
-	for range n {
-		numbers = append(numbers, modes, 1, 128, 128)
-	}
-	for range m {
-		numbers = append(numbers, others, 1, 128, 128)
-	}
-	return set(mode, numbers...)
-}
-
-// misfit is why the tasks of a mode do not fit: two of them, by their C, D and T, and the error.
-type misfit struct {
-	numbers []int64
-	err     api.Errno
-}
-
-// in are its tasks, of these Modes, as set takes them.
-func (m misfit) in(modes int64) []int64 {
-	n := m.numbers
-	return []int64{modes, n[0], n[1], n[2], modes, n[3], n[4], n[5]}
-}
-
-// tooMuch are misfits by their work: of a load above 1 (by a lot, and by the least that can be), and of too much work at a time, though the load is not above 1 (by far, and just so).
-func tooMuch() []misfit {
-	return []misfit{
-		{[]int64{3, 4, 4, 3, 4, 4}, api.ErrLoad},
-		{[]int64{1, 2, 2, 1<<19 + 1, 1 << 20, 1 << 20}, api.ErrLoad},
-		{[]int64{1, 1, 1024, 1, 1, 1024}, api.ErrLoad},
-		{[]int64{1, 1, 2, 1, 1, 2}, api.ErrLoad},
-	}
-}
-
-// tooLong are misfits by their period: one task has too great a one by itself, or only both of them do.
-func tooLong() []misfit {
-	return []misfit{
-		{[]int64{1, 1, tooGreat, 1, 4, 4}, api.ErrOver},
-		{[]int64{1, 4, 4, 1 << 31, 1 << 31, 1 << 31}, api.ErrOver},
-		{[]int64{1, 1024, 1024, 1, 1025, 1025}, api.ErrOver},
-	}
-}
-
-// fitting are sets that fit, some of them just so.
-func fitting() []api.Table {
-	l := []api.Table{
-		{}, {Mode: 3}, {Rows: []api.Row{}, Mode: 1},
-		set(0, 15, 1, 1, 1), set(2, 15, 1<<20, 1<<20, 1<<20), set(1, 15, 1, 2, 2, 15, 1, 2, 2), set(3, 15, 2, 3, 5, 15, 2, 4, 6), set(0, 15, 1, 2, 2, 15, 1<<19, 1<<20, 1<<20),
-		// Of all their tasks together there would be too much, or too great a period.
-		set(0, 1, 3, 4, 4, 2, 3, 4, 4, 4, 3, 4, 4, 8, 3, 4, 4), set(1, 1, 1, 1024, 1024, 2, 1, 1025, 1025), set(2, 3, 1, 1, 4, 12, 1, 1, 4), set(3, 5, 4, 4, 4, 10, 5, 5, 5),
-	}
-	for n := range 17 {
-		l = append(l, smalls(n%4, 15, n, 1, 0), smalls(n%4, 4, n, 8, 16-n))
-	}
-	return l
-}
-
-// extras are extra tasks of all kinds: none, such as fit nearly everywhere, such as fit nowhere, too many, and such as may not be.
-func extras() [][]api.Task {
-	l := [][]api.Task{nil, {}, samples.Named(1, 1<<20, 1<<20), samples.Named(1, 1, 1), samples.Named(1, 1, 1, 1, 1, 1), samples.Named(1, 1, 4, 1, 1, 4), samples.Named(1, 1, tooGreat), small(15), small(16), small(17), small(5000)}
-	for _, bad := range samples.Wrong() {
-		l = append(l, []api.Task{bad}, samples.Same(16, bad), samples.Same(17, bad), append(small(1), bad), append(small(16), bad))
-	}
-	return l
-}
-
 // of are the tasks of t that are in that mode, as a plain count of bits tells.
 func of(t api.Table, mode int) []api.Task {
 	bits := []int{1, 2, 4, 8}
@@ -136,16 +52,6 @@ func brief(l []api.Task) string {
 	return fmt.Sprintf("%d tasks: %v", len(l), l[:min(len(l), 6)])
 }
 
-// amid is l, amid other tasks: what lies in front of and behind them is the caller's, too. Nil stays so.
-func amid(l []api.Task) ([]api.Task, []api.Task) {
-	if l == nil {
-		return nil, nil
-	}
-	all := samples.Same(len(l)+8, api.Task{ID: 77, C: 7, D: 7, T: 777, Modes: 7})
-	copy(all[4:], l)
-	return all[4 : 4+len(l)], all
-}
-
 // judges looks at what Fits and First tell of x, and that it stays as it is.
 func judges(t *testing.T, x api.Table, mode int, want api.Errno) {
 	t.Helper()
@@ -168,7 +74,7 @@ func judges(t *testing.T, x api.Table, mode int, want api.Errno) {
 func joins(t *testing.T, x api.Table, extra []api.Task, want api.Errno) {
 	t.Helper()
 	given, all := samples.Roomy(x)
-	more, rest := amid(extra)
+	more, rest := samples.Amid(extra)
 	kept, left := slices.Clone(all), slices.Clone(rest)
 	for range 2 {
 		if got := With(given, more); got != want {
@@ -192,7 +98,7 @@ func fits(t *testing.T, x api.Table) {
 func doesNot(t *testing.T, x api.Table, mode int, want api.Errno) {
 	t.Helper()
 	judges(t, x, mode, want)
-	for _, extra := range extras() {
+	for _, extra := range samples.Extras() {
 		joins(t, x, extra, want)
 	}
 }
@@ -209,9 +115,9 @@ func TestTablesThatMayNotBe(t *testing.T) { // P15.1, P1
 	for _, x := range append(samples.WrongTables(), samples.Rising(5000), api.Table{Rows: make([]api.Row, 3), Mode: -9}) {
 		doesNot(t, x, -1, api.ErrArg)
 	}
-	for _, m := range append(tooMuch(), tooLong()...) {
-		good := set(1, m.in(15)...)
-		doesNot(t, good, 0, m.err)
+	for _, m := range append(samples.TooMuch(), samples.TooLong()...) {
+		good := samples.Set(1, m.In(15)...)
+		doesNot(t, good, 0, m.Err)
 		for _, mode := range []int{-1, 4, math.MinInt, math.MaxInt} {
 			doesNot(t, in(good, mode), -1, api.ErrArg)
 		}
@@ -224,8 +130,8 @@ func TestTablesThatMayNotBe(t *testing.T) { // P15.1, P1
 		doesNot(t, samples.Altered(good, 0, func(r *api.Row) { r.Task.ID = 21 }), -1, api.ErrArg)
 		doesNot(t, samples.Altered(good, 0, func(r *api.Row) { r.Server, r.Task.T = true, r.Task.T+1 }), -1, api.ErrArg)
 	}
-	doesNot(t, smalls(0, 15, 17, 1, 0), -1, api.ErrArg)
-	doesNot(t, smalls(0, 1, 4, 2, 13), -1, api.ErrArg)
+	doesNot(t, samples.Smalls(0, 15, 17, 1, 0), -1, api.ErrArg)
+	doesNot(t, samples.Smalls(0, 1, 4, 2, 13), -1, api.ErrArg)
 }
 
 func TestTablesWithoutRows(t *testing.T) { // P15.1, R1
@@ -238,7 +144,7 @@ func TestTablesWithoutRows(t *testing.T) { // P15.1, R1
 }
 
 func TestSetsThatFit(t *testing.T) { // P15.1
-	for _, x := range fitting() {
+	for _, x := range samples.Fitting() {
 		for mode := range 4 {
 			fits(t, in(x, mode))
 		}
@@ -253,10 +159,10 @@ func TestServersCountAsTasks(t *testing.T) { // P15.1
 			}
 			return x
 		}
-		fits(t, serve(set(0, 15, 1, 2, 2, 15, 1, 2, 2)))
-		fits(t, serve(set(1, 4, 4, 4, 4, 8, 4, 4, 4)))
-		doesNot(t, serve(set(2, 15, 1, 2, 2, 2, 2, 3, 3)), 1, api.ErrLoad)
-		doesNot(t, serve(set(3, 12, 1, 1024, 1024, 15, 1, 1025, 1025)), 2, api.ErrOver)
+		fits(t, serve(samples.Set(0, 15, 1, 2, 2, 15, 1, 2, 2)))
+		fits(t, serve(samples.Set(1, 4, 4, 4, 4, 8, 4, 4, 4)))
+		doesNot(t, serve(samples.Set(2, 15, 1, 2, 2, 2, 2, 3, 3)), 1, api.ErrLoad)
+		doesNot(t, serve(samples.Set(3, 12, 1, 1024, 1024, 15, 1, 1025, 1025)), 2, api.ErrOver)
 	}
 }
 
@@ -273,7 +179,7 @@ func ahead(mode int) []int64 {
 func inEach(t *testing.T, numbers []int64, mode int, want api.Errno) {
 	t.Helper()
 	for own := range 4 {
-		x := set(own, numbers...)
+		x := samples.Set(own, numbers...)
 		doesNot(t, x, mode, want)
 		if m, err := first(x); m != mode || err != want {
 			t.Errorf("%v: %d, error %d by the words, want %d, %d", x, m, err, mode, want)
@@ -283,11 +189,11 @@ func inEach(t *testing.T, numbers []int64, mode int, want api.Errno) {
 
 func TestTheFirstModeThatDoesNotFit(t *testing.T) { // P15.1
 	for mode := range 4 {
-		for _, m := range append(tooMuch(), tooLong()...) {
+		for _, m := range append(samples.TooMuch(), samples.TooLong()...) {
 			// In this mode alone, and in it and in all behind it.
-			inEach(t, m.in(1<<mode), mode, m.err)
-			inEach(t, m.in(16-1<<mode), mode, m.err)
-			inEach(t, append(ahead(mode), m.in(1<<mode)...), mode, m.err)
+			inEach(t, m.In(1<<mode), mode, m.Err)
+			inEach(t, m.In(16-1<<mode), mode, m.Err)
+			inEach(t, append(ahead(mode), m.In(1<<mode)...), mode, m.Err)
 		}
 	}
 }
@@ -295,14 +201,14 @@ func TestTheFirstModeThatDoesNotFit(t *testing.T) { // P15.1
 func TestOneModeAloneHasBothTasks(t *testing.T) { // P15.1
 	for mode := range 4 {
 		// Each task fits without the other one: this mode has both, each other mode the one of them; and then no mode has both.
-		for _, m := range append(tooMuch(), tooLong()[2]) {
+		for _, m := range append(samples.TooMuch(), samples.TooLong()[2]) {
 			for at := range 2 {
-				numbers := m.in(15)
+				numbers := m.In(15)
 				numbers[4*at] = 1 << mode
-				inEach(t, numbers, mode, m.err)
+				inEach(t, numbers, mode, m.Err)
 				numbers[4*(1-at)] = 15 - 1<<mode
 				for own := range 4 {
-					fits(t, set(own, numbers...))
+					fits(t, samples.Set(own, numbers...))
 				}
 			}
 		}
@@ -312,13 +218,13 @@ func TestOneModeAloneHasBothTasks(t *testing.T) { // P15.1
 func TestTheFirstModeOfManyThatDoNotFit(t *testing.T) { // P15.1
 	for mode := range 4 {
 		for behind := mode + 1; behind < 4; behind++ {
-			for _, work := range tooMuch() {
-				for _, long := range tooLong() {
-					inEach(t, append(work.in(1<<mode), long.in(1<<behind)...), mode, api.ErrLoad)
-					inEach(t, append(long.in(1<<mode), work.in(1<<behind)...), mode, api.ErrOver)
+			for _, work := range samples.TooMuch() {
+				for _, long := range samples.TooLong() {
+					inEach(t, append(work.In(1<<mode), long.In(1<<behind)...), mode, api.ErrLoad)
+					inEach(t, append(long.In(1<<mode), work.In(1<<behind)...), mode, api.ErrOver)
 					// The mode behind has the rows of less IDs.
-					inEach(t, append(long.in(1<<behind), work.in(1<<mode)...), mode, api.ErrLoad)
-					inEach(t, append(work.in(1<<behind), long.in(1<<mode)...), mode, api.ErrOver)
+					inEach(t, append(long.In(1<<behind), work.In(1<<mode)...), mode, api.ErrLoad)
+					inEach(t, append(work.In(1<<behind), long.In(1<<mode)...), mode, api.ErrOver)
 				}
 			}
 		}
@@ -331,30 +237,30 @@ func TestWithOfHowManyTasks(t *testing.T) { // P15.1
 		for n := range 17 {
 			for m := range 17 - n {
 				// n rows are in the set's Mode, and m are not, and don't count.
-				x := smalls(mode, 1<<mode, n, other, m)
+				x := samples.Smalls(mode, 1<<mode, n, other, m)
 				for _, all := range []int{n, n + 1, 15, 16, 17, 18, 100, 1000} {
 					if more := all - n; more >= 0 && all <= 16 {
-						joins(t, x, small(more), api.OK)
+						joins(t, x, samples.Small(more), api.OK)
 					} else if more >= 0 {
-						joins(t, x, small(more), api.ErrFull)
+						joins(t, x, samples.Small(more), api.ErrFull)
 					}
 				}
 			}
 		}
 	}
-	joins(t, api.Table{}, small(16), api.OK)
-	joins(t, api.Table{}, small(17), api.ErrFull)
-	joins(t, smalls(0, 15, 16, 1, 0), small(1), api.ErrFull)
-	joins(t, smalls(0, 15, 16, 1, 0), nil, api.OK)
-	joins(t, smalls(1, 1, 16, 1, 0), small(16), api.OK)
-	joins(t, smalls(1, 1, 16, 1, 0), small(17), api.ErrFull)
+	joins(t, api.Table{}, samples.Small(16), api.OK)
+	joins(t, api.Table{}, samples.Small(17), api.ErrFull)
+	joins(t, samples.Smalls(0, 15, 16, 1, 0), samples.Small(1), api.ErrFull)
+	joins(t, samples.Smalls(0, 15, 16, 1, 0), nil, api.OK)
+	joins(t, samples.Smalls(1, 1, 16, 1, 0), samples.Small(16), api.OK)
+	joins(t, samples.Smalls(1, 1, 16, 1, 0), samples.Small(17), api.ErrFull)
 }
 
 func TestThatThereAreTooManyIsToldFirst(t *testing.T) { // P15.1, R2
-	x := smalls(2, 4, 10, 8, 6)
-	for _, bad := range append(samples.Wrong(), samples.Named(1, 1, tooGreat, 1, 1, 1, 128, 128, 128)...) {
+	x := samples.Smalls(2, 4, 10, 8, 6)
+	for _, bad := range append(samples.Wrong(), samples.Named(1, 1, samples.TooGreat, 1, 1, 1, 128, 128, 128)...) {
 		for at := range 7 {
-			extra := small(7)
+			extra := samples.Small(7)
 			extra[at] = bad
 			joins(t, x, extra, api.ErrFull)
 		}
@@ -370,31 +276,31 @@ func TestWithOfExtraTasks(t *testing.T) { // P15.1
 		extra []api.Task
 		want  api.Errno
 	}{
-		{set(0), samples.Named(1, 1, 1), api.OK},
-		{set(0), samples.Named(1, 1, 1, 1, 1, 1), api.ErrLoad},
-		{set(0), samples.Named(1, 1, 4, 1, 1, 4), api.ErrLoad},
-		{set(0), samples.Named(1, 1, 1<<20), api.OK},
-		{set(0), samples.Named(1, 1, tooGreat), api.ErrOver},
-		{set(0), samples.Named(1, 1024, 1024, 1, 1025, 1025), api.ErrOver},
+		{samples.Set(0), samples.Named(1, 1, 1), api.OK},
+		{samples.Set(0), samples.Named(1, 1, 1, 1, 1, 1), api.ErrLoad},
+		{samples.Set(0), samples.Named(1, 1, 4, 1, 1, 4), api.ErrLoad},
+		{samples.Set(0), samples.Named(1, 1, 1<<20), api.OK},
+		{samples.Set(0), samples.Named(1, 1, samples.TooGreat), api.ErrOver},
+		{samples.Set(0), samples.Named(1, 1024, 1024, 1, 1025, 1025), api.ErrOver},
 		// A load of 1, and just above it.
-		{set(0, 15, 1, 2, 2), samples.Named(1, 2, 2), api.OK},
-		{set(0, 15, 1, 2, 2), samples.Named(2, 3, 3), api.ErrLoad},
-		{set(0, 15, 1, 2, 2), samples.Named(1<<19, 1<<20, 1<<20), api.OK},
-		{set(0, 15, 1, 2, 2), samples.Named(1<<19+1, 1<<20, 1<<20), api.ErrLoad},
-		{set(0, 15, 1, 2, 2), samples.Named(1, 4, 4, 1, 4, 4), api.OK},
-		{set(0, 15, 1, 2, 2), samples.Named(1, 4, 4, 1, 4, 4, 1, 1<<20, 1<<20), api.ErrLoad},
+		{samples.Set(0, 15, 1, 2, 2), samples.Named(1, 2, 2), api.OK},
+		{samples.Set(0, 15, 1, 2, 2), samples.Named(2, 3, 3), api.ErrLoad},
+		{samples.Set(0, 15, 1, 2, 2), samples.Named(1<<19, 1<<20, 1<<20), api.OK},
+		{samples.Set(0, 15, 1, 2, 2), samples.Named(1<<19+1, 1<<20, 1<<20), api.ErrLoad},
+		{samples.Set(0, 15, 1, 2, 2), samples.Named(1, 4, 4, 1, 4, 4), api.OK},
+		{samples.Set(0, 15, 1, 2, 2), samples.Named(1, 4, 4, 1, 4, 4, 1, 1<<20, 1<<20), api.ErrLoad},
 		// Just as much work as time, and too much, though the load is not above 1.
-		{set(3, 15, 2, 3, 5), samples.Named(2, 4, 6), api.OK},
-		{set(3, 15, 2, 3, 5), samples.Named(3, 4, 6), api.ErrLoad},
-		{set(3, 15, 2, 3, 5), samples.Named(2, 3, 6), api.ErrLoad},
+		{samples.Set(3, 15, 2, 3, 5), samples.Named(2, 4, 6), api.OK},
+		{samples.Set(3, 15, 2, 3, 5), samples.Named(3, 4, 6), api.ErrLoad},
+		{samples.Set(3, 15, 2, 3, 5), samples.Named(2, 3, 6), api.ErrLoad},
 		// Too great a period together alone, and if all the rest is wrong, too.
-		{set(1, 15, 1, 1024, 1024), samples.Named(1, 1023, 1023), api.OK},
-		{set(1, 15, 1, 1024, 1024), samples.Named(1, 1025, 1025), api.ErrOver},
-		{set(1, 15, 1, 1, 1), samples.Named(1, 1, tooGreat), api.ErrOver},
-		{set(1, 15, 1, 1, 1), samples.Named(1, 1, 1, 1, 1, 1<<31), api.ErrOver},
+		{samples.Set(1, 15, 1, 1024, 1024), samples.Named(1, 1023, 1023), api.OK},
+		{samples.Set(1, 15, 1, 1024, 1024), samples.Named(1, 1025, 1025), api.ErrOver},
+		{samples.Set(1, 15, 1, 1, 1), samples.Named(1, 1, samples.TooGreat), api.ErrOver},
+		{samples.Set(1, 15, 1, 1, 1), samples.Named(1, 1, 1, 1, 1, 1<<31), api.ErrOver},
 		// Its ID may be that of a row, or of another extra task.
-		{set(0, 15, 1, 4, 4, 15, 1, 4, 4), []api.Task{{ID: 10, C: 1, D: 4, T: 4, Modes: 1}, {ID: 10, C: 1, D: 4, T: 4, Modes: 1}}, api.OK},
-		{set(0, 15, 1, 4, 4, 15, 1, 4, 4), []api.Task{{ID: 20, C: 3, D: 4, T: 4, Modes: 1}}, api.ErrLoad},
+		{samples.Set(0, 15, 1, 4, 4, 15, 1, 4, 4), []api.Task{{ID: 10, C: 1, D: 4, T: 4, Modes: 1}, {ID: 10, C: 1, D: 4, T: 4, Modes: 1}}, api.OK},
+		{samples.Set(0, 15, 1, 4, 4, 15, 1, 4, 4), []api.Task{{ID: 20, C: 3, D: 4, T: 4, Modes: 1}}, api.ErrLoad},
 	}
 	for _, c := range cases {
 		joins(t, c.x, c.extra, c.want)
@@ -415,7 +321,7 @@ func TestWithOfExtraTasks(t *testing.T) { // P15.1
 func TestWithAsksTheSetsModeAlone(t *testing.T) { // P15.1
 	// Each mode has another load, of which all but the one leave room for what comes with it.
 	loads := []int64{1, 2, 3, 4}
-	x := set(0, 1, 1, 4, 4, 2, 2, 4, 4, 4, 3, 4, 4, 8, 4, 4, 4)
+	x := samples.Set(0, 1, 1, 4, 4, 2, 2, 4, 4, 4, 3, 4, 4, 8, 4, 4, 4)
 	for mode := range 4 {
 		for c := int64(1); c <= 4; c++ {
 			want := api.OK
@@ -427,7 +333,7 @@ func TestWithAsksTheSetsModeAlone(t *testing.T) { // P15.1
 		joins(t, in(x, mode), nil, api.OK)
 	}
 	// And so with the period.
-	x = set(0, 1, 1, 1024, 1024, 2, 1, 1023, 1023, 4, 1, 1025, 1025, 8, 1, 2, 2)
+	x = samples.Set(0, 1, 1, 1024, 1024, 2, 1, 1023, 1023, 4, 1, 1025, 1025, 8, 1, 2, 2)
 	for mode, want := range []api.Errno{api.ErrOver, api.OK, api.OK, api.OK} {
 		joins(t, in(x, mode), samples.Named(1, 1025, 1025), want)
 	}
@@ -437,10 +343,10 @@ func TestWithOfExtraTasksThatMayNotBe(t *testing.T) { // P15.1
 	for _, bad := range samples.Wrong() {
 		for _, n := range []int{0, 1, 7, 15} {
 			for mode := range 4 {
-				x := smalls(mode, 1<<mode, n, int64(15-1<<mode), 16-n)
+				x := samples.Smalls(mode, 1<<mode, n, int64(15-1<<mode), 16-n)
 				for more := 1; n+more <= 16; more++ {
 					for _, at := range []int{0, more / 2, more - 1} {
-						extra := small(more)
+						extra := samples.Small(more)
 						extra[at] = bad
 						joins(t, x, extra, api.ErrArg)
 					}
@@ -448,8 +354,8 @@ func TestWithOfExtraTasksThatMayNotBe(t *testing.T) { // P15.1
 			}
 		}
 		// It is told ahead of the errors of tasks that may be.
-		joins(t, set(0, 15, 1, 1, 1), append(samples.Named(1, 1, tooGreat, 1, 1, 1), bad), api.ErrArg)
-		joins(t, set(0, 15, 1, 1, 1), append([]api.Task{bad}, samples.Named(1, 1, tooGreat, 1, 1, 1)...), api.ErrArg)
+		joins(t, samples.Set(0, 15, 1, 1, 1), append(samples.Named(1, 1, samples.TooGreat, 1, 1, 1), bad), api.ErrArg)
+		joins(t, samples.Set(0, 15, 1, 1, 1), append([]api.Task{bad}, samples.Named(1, 1, samples.TooGreat, 1, 1, 1)...), api.ErrArg)
 	}
 }
 
@@ -457,10 +363,10 @@ func TestManyDrawnSets(t *testing.T) { // P15.1
 	draw := samples.Drawing(15)
 	told, joined, modes := map[api.Errno]int{}, map[api.Errno]int{}, map[int]int{}
 	for range 20000 {
-		x := drawn(draw)
+		x := samples.DrawnSet(draw)
 		mode, err := first(x)
 		judges(t, x, mode, err)
-		extra := others(draw)
+		extra := samples.DrawnExtra(draw)
 		joins(t, x, extra, with(x, extra))
 		told[err]++
 		modes[mode]++
@@ -483,45 +389,4 @@ func TestManyDrawnSets(t *testing.T) { // P15.1
 			t.Errorf("just %d sets of which mode %d is the first: too few", modes[mode], mode)
 		}
 	}
-}
-
-// task is one that may be, of a period that most others have, or nearly so, and of not much work.
-func task(draw func(n int64) int64) api.Task {
-	p := []int64{4, 6, 10, 12, 20, 30, 60, 60, 60, 120}[draw(10)]
-	if draw(60) == 0 {
-		p = []int64{1 << 20, tooGreat, 1021, 1 << 31}[draw(4)]
-	}
-	d := p
-	if draw(2) == 0 {
-		d = 1 + draw(p)
-	}
-	return api.Task{ID: int(draw(24)), C: 1 + draw(max(1, d/(1+draw(16)))), D: d, T: p, Modes: 1 + int(draw(15))}
-}
-
-// drawn is a set that looks drawn by chance, of some rows or of many.
-func drawn(draw func(n int64) int64) api.Table {
-	rows := map[int]api.Row{}
-	for range draw([]int64{4, 8, 24}[draw(3)]) {
-		one := task(draw)
-		if len(rows) < 16 {
-			rows[one.ID] = api.Row{Task: one, Server: one.D == one.T && draw(2) == 0}
-		}
-	}
-	return samples.Risen(int(draw(4)), rows)
-}
-
-// others are extra tasks that look drawn by chance; some of them may not be.
-func others(draw func(n int64) int64) []api.Task {
-	if draw(3) == 0 {
-		return small(int(draw(20)))
-	}
-	var l []api.Task
-	for range draw([]int64{1, 3, 18}[draw(3)]) {
-		l = append(l, task(draw))
-	}
-	if len(l) > 0 && draw(8) == 0 {
-		wrong := samples.Wrong()
-		l[draw(int64(len(l)))] = wrong[draw(int64(len(wrong)))]
-	}
-	return l
 }

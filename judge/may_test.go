@@ -26,7 +26,7 @@ func becomes(t *testing.T, x api.Table, o api.Op, extra []api.Task) (api.Table, 
 	t.Helper()
 	want, err := may(x, o, extra)
 	given, all := samples.Roomy(x)
-	more, rest := amid(extra)
+	more, rest := samples.Amid(extra)
 	kept, left := slices.Clone(all), slices.Clone(rest)
 	untouched := func() bool { return slices.Equal(all, kept) && slices.Equal(rest, left) }
 	got, e := May(given, o, more)
@@ -77,11 +77,6 @@ func lets(t *testing.T, x api.Table, o api.Op, extra []api.Task) api.Table {
 	return want
 }
 
-// admits is the op that admits a task of these Modes, C, D and T, of an ID that set gives to none.
-func admits(modes int, c, d, p int64) api.Op {
-	return samples.Admits(api.Task{ID: 7, C: c, D: d, T: p, Modes: modes})
-}
-
 func TestTheChaptersExample(t *testing.T) { // P15.2
 	x := lets(t, api.Table{}, samples.Admits(api.Task{ID: 1, C: 1, D: 2, T: 2, Modes: 15}), nil)
 	for modes := 1; modes < 16; modes++ {
@@ -91,58 +86,35 @@ func TestTheChaptersExample(t *testing.T) { // P15.2
 }
 
 func TestATaskThatLeavesHoldsItsShare(t *testing.T) { // P15.2, P15.3
-	x := set(0, 15, 1, 2, 2)
+	x := samples.Set(0, 15, 1, 2, 2)
 	bare := lets(t, x, samples.Removes(10), nil)
-	refuses(t, bare, admits(15, 2, 3, 3), Gone(x, bare), api.ErrLoad)
-	lets(t, bare, admits(15, 1, 3, 3), Gone(x, bare))
-	lets(t, bare, admits(15, 2, 3, 3), nil)
+	refuses(t, bare, samples.AdmitsSeven(15, 2, 3, 3), Gone(x, bare), api.ErrLoad)
+	lets(t, bare, samples.AdmitsSeven(15, 1, 3, 3), Gone(x, bare))
+	lets(t, bare, samples.AdmitsSeven(15, 2, 3, 3), nil)
 
-	less := lets(t, set(0, 15, 3, 4, 4), samples.Resizes(10, 1), nil)
-	gone := Gone(set(0, 15, 3, 4, 4), less)
-	refuses(t, less, admits(15, 2, 4, 4), gone, api.ErrLoad)
-	lets(t, less, admits(15, 1, 4, 4), gone)
-	lets(t, less, admits(15, 3, 4, 4), nil)
-}
-
-// oneOfEach are ops of each kind, that can be applied to a set with a row of ID 10, and room for one of ID 7.
-func oneOfEach() []api.Op {
-	return []api.Op{admits(15, 1, 128, 128), samples.Serves(api.Task{ID: 7, C: 1, D: 128, T: 128, Modes: 15}), samples.Removes(10), samples.Resizes(10, 1), samples.TurnsTo(0), samples.TurnsTo(3)}
+	less := lets(t, samples.Set(0, 15, 3, 4, 4), samples.Resizes(10, 1), nil)
+	gone := Gone(samples.Set(0, 15, 3, 4, 4), less)
+	refuses(t, less, samples.AdmitsSeven(15, 2, 4, 4), gone, api.ErrLoad)
+	lets(t, less, samples.AdmitsSeven(15, 1, 4, 4), gone)
+	lets(t, less, samples.AdmitsSeven(15, 3, 4, 4), nil)
 }
 
 func TestEachErrorOfApplyAtEachKind(t *testing.T) { // P15.2, R2
-	x := set(0, 15, 1, 4, 4, 6, 1, 5, 5)
-	full := smalls(1, 1, 8, 2, 8)
-	cases := []struct {
-		x    api.Table
-		o    api.Op
-		want api.Errno
-	}{
-		{x, admits(16, 1, 4, 4), api.ErrArg}, {x, admits(15, 5, 4, 4), api.ErrArg}, {x, samples.Admits(api.Task{ID: -1, C: 1, D: 1, T: 1, Modes: 1}), api.ErrArg},
-		{x, samples.Serves(api.Task{ID: 7, C: 1, D: 3, T: 4, Modes: 1}), api.ErrArg}, {x, api.Op{Kind: api.OpAdmit, Task: api.Task{ID: 7, C: 1, D: 4, T: 4, Modes: 1}, ID: 7}, api.ErrArg},
-		{x, samples.Admits(api.Task{ID: 10, C: 1, D: 4, T: 4, Modes: 15}), api.ErrThere}, {x, samples.Serves(api.Task{ID: 20, C: 5, D: 5, T: 5, Modes: 15}), api.ErrThere},
-		{full, admits(1, 1, 128, 128), api.ErrFull}, {full, admits(8, 1, 128, 128), api.ErrFull}, {full, samples.Admits(api.Task{ID: 160, C: 1, D: 1, T: 1, Modes: 1}), api.ErrThere},
-		{x, samples.Removes(-1), api.ErrArg}, {x, samples.Removes(1024), api.ErrArg}, {x, api.Op{Kind: api.OpRemove, ID: 10, Mode: 1}, api.ErrArg},
-		{x, samples.Removes(7), api.ErrNone}, {x, samples.Removes(0), api.ErrNone}, {x, samples.Removes(1023), api.ErrNone},
-		{x, samples.Resizes(-1, 1), api.ErrArg}, {x, samples.Resizes(10, 0), api.ErrArg}, {x, samples.Resizes(10, 1<<31+1), api.ErrArg}, {x, api.Op{Kind: api.OpResize, ID: 10, C: 1, Server: true}, api.ErrArg},
-		{x, samples.Resizes(7, 1), api.ErrNone}, {x, samples.Resizes(1023, 1<<31), api.ErrNone}, {x, samples.Resizes(10, 5), api.ErrArg}, {x, samples.Resizes(20, 1<<31), api.ErrArg},
-		{x, samples.TurnsTo(-1), api.ErrArg}, {x, samples.TurnsTo(4), api.ErrArg}, {x, api.Op{Kind: api.OpMode, Mode: 1, C: 1}, api.ErrArg},
-		{x, api.Op{}, api.ErrArg}, {x, api.Op{Kind: 5}, api.ErrArg}, {x, api.Op{Kind: -1, ID: 10}, api.ErrArg},
-	}
-	for _, c := range cases {
+	for _, c := range samples.Refusals() {
 		// It is told ahead of all that With would say.
-		for _, extra := range extras() {
-			refuses(t, c.x, c.o, extra, c.want)
+		for _, extra := range samples.Extras() {
+			refuses(t, c.Set, c.Op, extra, c.Err)
 		}
-		broken := samples.Altered(c.x, len(c.x.Rows)-1, func(r *api.Row) { r.Task.T = tooGreat })
+		broken := samples.Altered(c.Set, len(c.Set.Rows)-1, func(r *api.Row) { r.Task.T = samples.TooGreat })
 		judges(t, broken, 1, api.ErrOver)
-		refuses(t, broken, c.o, nil, c.want)
+		refuses(t, broken, c.Op, nil, c.Err)
 	}
 }
 
 func TestOpsOfTablesThatMayNotBe(t *testing.T) { // P15.2, P1
-	for _, x := range append(samples.WrongTables(), samples.Rising(5000), set(4, 15, 1, 4, 4), set(-1)) {
-		for _, o := range append(oneOfEach(), api.Op{}, samples.Removes(7), samples.Resizes(10, 1<<31)) {
-			for _, extra := range [][]api.Task{nil, small(1), small(17), samples.Wrong()} {
+	for _, x := range append(samples.WrongTables(), samples.Rising(5000), samples.Set(4, 15, 1, 4, 4), samples.Set(-1)) {
+		for _, o := range append(samples.OneOfEach(), api.Op{}, samples.Removes(7), samples.Resizes(10, 1<<31)) {
+			for _, extra := range [][]api.Task{nil, samples.Small(1), samples.Small(17), samples.Wrong()} {
 				refuses(t, x, o, extra, api.ErrArg)
 			}
 		}
@@ -150,27 +122,27 @@ func TestOpsOfTablesThatMayNotBe(t *testing.T) { // P15.2, P1
 }
 
 func TestEachErrorOfFitsAtAnAdmit(t *testing.T) { // P15.2
-	x := set(1, 1, 2, 4, 4, 6, 1, 2, 2)
-	lets(t, x, admits(15, 1, 2, 2), nil)
-	lets(t, x, admits(8, 2, 2, 2), nil)
-	refuses(t, x, admits(15, 3, 4, 4), nil, api.ErrLoad)
-	refuses(t, x, admits(1, 3, 4, 4), nil, api.ErrLoad) // in a mode that is not the set's
-	refuses(t, x, admits(4, 2, 2, 3), nil, api.ErrLoad)
-	refuses(t, x, admits(8, 1, 1, tooGreat), nil, api.ErrOver)
-	refuses(t, x, admits(15, 1, 1, 1<<31), nil, api.ErrOver)
-	refuses(t, set(0, 8, 1, 1024, 1024), admits(12, 1, 1025, 1025), nil, api.ErrOver)
-	lets(t, set(0, 8, 1, 1024, 1024), admits(7, 1, 1025, 1025), nil)
+	x := samples.Set(1, 1, 2, 4, 4, 6, 1, 2, 2)
+	lets(t, x, samples.AdmitsSeven(15, 1, 2, 2), nil)
+	lets(t, x, samples.AdmitsSeven(8, 2, 2, 2), nil)
+	refuses(t, x, samples.AdmitsSeven(15, 3, 4, 4), nil, api.ErrLoad)
+	refuses(t, x, samples.AdmitsSeven(1, 3, 4, 4), nil, api.ErrLoad) // in a mode that is not the set's
+	refuses(t, x, samples.AdmitsSeven(4, 2, 2, 3), nil, api.ErrLoad)
+	refuses(t, x, samples.AdmitsSeven(8, 1, 1, samples.TooGreat), nil, api.ErrOver)
+	refuses(t, x, samples.AdmitsSeven(15, 1, 1, 1<<31), nil, api.ErrOver)
+	refuses(t, samples.Set(0, 8, 1, 1024, 1024), samples.AdmitsSeven(12, 1, 1025, 1025), nil, api.ErrOver)
+	lets(t, samples.Set(0, 8, 1, 1024, 1024), samples.AdmitsSeven(7, 1, 1025, 1025), nil)
 	refuses(t, x, samples.Serves(api.Task{ID: 7, C: 3, D: 4, T: 4, Modes: 2}), nil, api.ErrLoad)
 	lets(t, x, samples.Serves(api.Task{ID: 7, C: 2, D: 4, T: 4, Modes: 2}), nil)
 }
 
 func TestEachErrorOfFitsAtAnyKind(t *testing.T) { // P15.2
 	// The op touches nothing of what does not fit: it is in mode 2 alone, and of IDs 20 and 30.
-	for _, m := range append(tooMuch(), tooLong()...) {
-		x := set(1, append([]int64{11, 2, 128, 128}, m.in(4)...)...)
-		for _, o := range append(oneOfEach(), samples.TurnsTo(2)) {
-			for _, extra := range extras() {
-				refuses(t, x, o, extra, m.err)
+	for _, m := range append(samples.TooMuch(), samples.TooLong()...) {
+		x := samples.Set(1, append([]int64{11, 2, 128, 128}, m.In(4)...)...)
+		for _, o := range append(samples.OneOfEach(), samples.TurnsTo(2)) {
+			for _, extra := range samples.Extras() {
+				refuses(t, x, o, extra, m.Err)
 			}
 		}
 		// What is left of it fits, and so the set may become that.
@@ -180,39 +152,39 @@ func TestEachErrorOfFitsAtAnyKind(t *testing.T) { // P15.2
 				lets(t, x, samples.Removes(id), nil)
 				refuses(t, x, samples.Removes(id), samples.Named(1, 1, 1, 1, 1, 1), api.ErrLoad)
 			} else {
-				refuses(t, x, samples.Removes(id), nil, m.err)
+				refuses(t, x, samples.Removes(id), nil, m.Err)
 			}
 		}
 	}
 	// As much work as there is time for is left, and one more.
-	x := set(0, 15, 3, 4, 4, 15, 4, 8, 8)
+	x := samples.Set(0, 15, 3, 4, 4, 15, 4, 8, 8)
 	lets(t, x, samples.Resizes(10, 2), nil)
 	refuses(t, x, samples.Resizes(10, 3), nil, api.ErrLoad)
 	lets(t, x, samples.Resizes(20, 2), nil)
 	refuses(t, x, samples.Resizes(20, 3), nil, api.ErrLoad)
-	refuses(t, set(0, 15, 1, 2, 2, 8, 1, 2, 2), samples.Resizes(10, 2), nil, api.ErrLoad)
-	refuses(t, set(0, 15, 1, 2, tooGreat, 8, 1, 2, 2), samples.Resizes(20, 2), nil, api.ErrOver)
-	lets(t, set(0, 15, 1, 2, tooGreat, 8, 1, 2, 2), samples.Removes(10), nil)
-	refuses(t, set(0, 15, 1, 2, tooGreat, 8, 1, 2, 2), samples.Removes(20), nil, api.ErrOver)
+	refuses(t, samples.Set(0, 15, 1, 2, 2, 8, 1, 2, 2), samples.Resizes(10, 2), nil, api.ErrLoad)
+	refuses(t, samples.Set(0, 15, 1, 2, samples.TooGreat, 8, 1, 2, 2), samples.Resizes(20, 2), nil, api.ErrOver)
+	lets(t, samples.Set(0, 15, 1, 2, samples.TooGreat, 8, 1, 2, 2), samples.Removes(10), nil)
+	refuses(t, samples.Set(0, 15, 1, 2, samples.TooGreat, 8, 1, 2, 2), samples.Removes(20), nil, api.ErrOver)
 }
 
 func TestEachErrorOfExtraTasksAtEachKind(t *testing.T) { // P15.2
 	// The set has tasks of each mode, and may become another one by each op.
-	x := set(0, 15, 2, 128, 128, 1, 1, 128, 128, 8, 1, 128, 128)
-	for _, o := range oneOfEach() {
+	x := samples.Set(0, 15, 2, 128, 128, 1, 1, 128, 128, 8, 1, 128, 128)
+	for _, o := range samples.OneOfEach() {
 		lets(t, x, o, nil)
 		lets(t, x, o, []api.Task{})
 		lets(t, x, o, samples.Named(1, 2, 2))
 		lets(t, x, o, samples.Same(12, samples.Named(1, 128, 128)[0]))
 		refuses(t, x, o, samples.Named(1, 1, 1), api.ErrLoad)
 		refuses(t, x, o, samples.Named(1, 1, 64, 1, 1, 64), api.ErrLoad)
-		refuses(t, x, o, samples.Named(1, 1, tooGreat), api.ErrOver)
+		refuses(t, x, o, samples.Named(1, 1, samples.TooGreat), api.ErrOver)
 		refuses(t, x, o, samples.Named(1, 1, 1, 1, 1, 1<<31), api.ErrOver)
-		refuses(t, x, o, small(17), api.ErrFull)
+		refuses(t, x, o, samples.Small(17), api.ErrFull)
 		refuses(t, x, o, samples.Same(17, api.Task{}), api.ErrFull)
 		for _, bad := range samples.Wrong() {
 			refuses(t, x, o, []api.Task{bad}, api.ErrArg)
-			refuses(t, x, o, append(small(3), bad), api.ErrArg)
+			refuses(t, x, o, append(samples.Small(3), bad), api.ErrArg)
 			refuses(t, x, o, append(samples.Named(1, 1, 1), bad), api.ErrArg)
 		}
 	}
@@ -220,32 +192,32 @@ func TestEachErrorOfExtraTasksAtEachKind(t *testing.T) { // P15.2
 
 func TestExtraTasksStandBesideTheNewSet(t *testing.T) { // P15.2
 	// What is asked is the set behind the op, not the one ahead of it.
-	x := set(0, 15, 2, 4, 4)
-	lets(t, x, admits(1, 1, 4, 4), samples.Named(1, 4, 4))
-	refuses(t, x, admits(1, 1, 4, 4), samples.Named(2, 4, 4), api.ErrLoad)
-	lets(t, x, admits(14, 1, 4, 4), samples.Named(2, 4, 4))
+	x := samples.Set(0, 15, 2, 4, 4)
+	lets(t, x, samples.AdmitsSeven(1, 1, 4, 4), samples.Named(1, 4, 4))
+	refuses(t, x, samples.AdmitsSeven(1, 1, 4, 4), samples.Named(2, 4, 4), api.ErrLoad)
+	lets(t, x, samples.AdmitsSeven(14, 1, 4, 4), samples.Named(2, 4, 4))
 	lets(t, x, samples.Removes(10), samples.Named(4, 4, 4))
 	lets(t, x, samples.Resizes(10, 1), samples.Named(3, 4, 4))
 	refuses(t, x, samples.Resizes(10, 3), samples.Named(2, 4, 4), api.ErrLoad)
 	refuses(t, x, samples.Resizes(10, 1), samples.Named(4, 4, 4), api.ErrLoad)
 
 	// 16 with the new one, and 17; 16 without the old one.
-	many := smalls(0, 1, 8, 2, 4)
-	lets(t, many, admits(1, 1, 128, 128), small(7))
-	refuses(t, many, admits(1, 1, 128, 128), small(8), api.ErrFull)
-	lets(t, many, admits(2, 1, 128, 128), small(8))
-	refuses(t, many, admits(2, 1, 128, 128), small(9), api.ErrFull)
-	lets(t, many, samples.Removes(10), small(9))
-	refuses(t, many, samples.Removes(10), small(10), api.ErrFull)
-	lets(t, many, samples.Removes(120), small(8))
-	refuses(t, many, samples.Removes(120), small(9), api.ErrFull)
-	lets(t, many, samples.Resizes(10, 2), small(8))
-	refuses(t, many, samples.Resizes(10, 2), small(9), api.ErrFull)
+	many := samples.Smalls(0, 1, 8, 2, 4)
+	lets(t, many, samples.AdmitsSeven(1, 1, 128, 128), samples.Small(7))
+	refuses(t, many, samples.AdmitsSeven(1, 1, 128, 128), samples.Small(8), api.ErrFull)
+	lets(t, many, samples.AdmitsSeven(2, 1, 128, 128), samples.Small(8))
+	refuses(t, many, samples.AdmitsSeven(2, 1, 128, 128), samples.Small(9), api.ErrFull)
+	lets(t, many, samples.Removes(10), samples.Small(9))
+	refuses(t, many, samples.Removes(10), samples.Small(10), api.ErrFull)
+	lets(t, many, samples.Removes(120), samples.Small(8))
+	refuses(t, many, samples.Removes(120), samples.Small(9), api.ErrFull)
+	lets(t, many, samples.Resizes(10, 2), samples.Small(8))
+	refuses(t, many, samples.Resizes(10, 2), samples.Small(9), api.ErrFull)
 }
 
 func TestAnotherModeWithExtraTasks(t *testing.T) { // P15.2
 	// 1 of 4 in mode 0, 2 of 4 in mode 1, and so on, so that what comes with it fits in some of them alone.
-	x := set(0, 1, 1, 4, 4, 2, 2, 4, 4, 4, 3, 4, 4, 8, 4, 4, 4)
+	x := samples.Set(0, 1, 1, 4, 4, 2, 2, 4, 4, 4, 3, 4, 4, 8, 4, 4, 4)
 	for from := range 4 {
 		for to := range 4 {
 			for c := int64(1); c <= 4; c++ {
@@ -258,42 +230,25 @@ func TestAnotherModeWithExtraTasks(t *testing.T) { // P15.2
 			lets(t, in(x, from), samples.TurnsTo(to), nil)
 		}
 	}
-	many := smalls(0, 1, 2, 2, 14)
-	lets(t, many, samples.TurnsTo(0), small(14))
-	refuses(t, many, samples.TurnsTo(1), small(14), api.ErrFull)
-	lets(t, many, samples.TurnsTo(1), small(2))
-	refuses(t, in(many, 1), samples.TurnsTo(1), small(3), api.ErrFull)
-	lets(t, in(many, 1), samples.TurnsTo(0), small(3))
-	long := set(0, 1, 1, 1024, 1024, 2, 1, 1023, 1023)
+	many := samples.Smalls(0, 1, 2, 2, 14)
+	lets(t, many, samples.TurnsTo(0), samples.Small(14))
+	refuses(t, many, samples.TurnsTo(1), samples.Small(14), api.ErrFull)
+	lets(t, many, samples.TurnsTo(1), samples.Small(2))
+	refuses(t, in(many, 1), samples.TurnsTo(1), samples.Small(3), api.ErrFull)
+	lets(t, in(many, 1), samples.TurnsTo(0), samples.Small(3))
+	long := samples.Set(0, 1, 1, 1024, 1024, 2, 1, 1023, 1023)
 	refuses(t, long, samples.TurnsTo(0), samples.Named(1, 1025, 1025), api.ErrOver)
 	lets(t, long, samples.TurnsTo(1), samples.Named(1, 1025, 1025))
 	refuses(t, in(long, 1), samples.TurnsTo(0), samples.Named(1, 1025, 1025), api.ErrOver)
-}
-
-// drawnOp looks drawn by chance; most of them can be applied to a set of some IDs below 24.
-func drawnOp(draw func(n int64) int64) api.Op {
-	switch draw(12) {
-	case 0, 1, 2:
-		return samples.Removes(int(draw(24)))
-	case 3, 4:
-		return samples.Resizes(int(draw(24)), 1+draw(9))
-	case 5, 6:
-		return samples.TurnsTo(int(draw(4)))
-	case 7:
-		return []api.Op{{}, samples.TurnsTo(4), samples.Removes(-1), samples.Resizes(3, 0), admits(0, 1, 1, 1)}[draw(5)]
-	}
-	o := samples.Admits(task(draw))
-	o.Server = o.Task.D == o.Task.T && draw(2) == 0
-	return o
 }
 
 func TestManyDrawnOps(t *testing.T) { // P15.2
 	draw := samples.Drawing(16)
 	told := map[api.Errno]int{}
 	for range 20000 {
-		x, o, extra := drawn(draw), drawnOp(draw), []api.Task(nil)
+		x, o, extra := samples.DrawnSet(draw), samples.DrawnOp(draw), []api.Task(nil)
 		if draw(2) == 0 {
-			extra = others(draw)
+			extra = samples.DrawnExtra(draw)
 		}
 		_, err := becomes(t, x, o, extra)
 		told[err]++
@@ -349,9 +304,9 @@ func TestWhatWasChangedByWhatMayFits(t *testing.T) { // P15.4
 	for range 100 {
 		x := api.Table{Mode: int(draw(4))}
 		for range 60 {
-			o, extra := drawnOp(draw), []api.Task(nil)
+			o, extra := samples.DrawnOp(draw), []api.Task(nil)
 			if draw(4) == 0 {
-				extra = others(draw)
+				extra = samples.DrawnExtra(draw)
 			}
 			next, err := May(x, o, extra)
 			if err != api.OK {

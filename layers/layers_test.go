@@ -40,6 +40,7 @@ func built() []layer {
 		{"guard", []string{"slices"}},
 		{"edf", []string{"horarium/heap"}},
 		{"server", []string{"slices"}},
+		{"registry", []string{"slices", "horarium/disk", "horarium/journal", "horarium/judge", "horarium/ops", "horarium/table"}},
 	}
 }
 

@@ -1,4 +1,4 @@
-// Package samples has tasks, tables, times and ops for the tests of the layers that reckon with them, and bytes for those of the layers that read them. No layer imports it.
+// Package samples has tasks, tables, times and ops for the tests of the layers that reckon with them, bytes for those of the layers that read them, and what looks at a disk for those of the layers that write there. No layer imports it.
 package samples
 
 import (
