@@ -41,6 +41,7 @@ func built() []layer {
 		{"edf", []string{"horarium/heap"}},
 		{"server", []string{"slices"}},
 		{"registry", []string{"slices", "horarium/disk", "horarium/journal", "horarium/judge", "horarium/ops", "horarium/table"}},
+		{"counts", []string{"sync/atomic"}},
 	}
 }
 
